@@ -75,6 +75,9 @@ func TestNodesLimits(t *testing.T) {
 			t.Errorf("Nodes of %d conses: %d, %v", n, len(g), e)
 		}
 	}
+	if g, e := forms.Nodes(node(api.FormVector, "", fill(1999, node(api.FormInt, "1"))...)); e != api.OK || len(g) != 2000 {
+		t.Errorf("Nodes of a vector of integers: %d, %v", len(g), e)
+	}
 	if g, e := forms.Nodes(forms.List(fill(1997, symbol("A")))); e != api.OK || len(g) != 1999 {
 		t.Errorf("Nodes of a list of symbols: %d, %v", len(g), e)
 	}
@@ -264,6 +267,19 @@ func TestBuildLimits(t *testing.T) {
 	for n, want := range map[int]api.Errno{98: api.OK, 99: api.ErrSize} {
 		if _, e := forms.Build(circle(n)); e != want {
 			t.Errorf("Build of a circle of %d vectors: %v", n, e)
+		}
+	}
+	// The depth of elements that are not the last ones counts likewise.
+	ahead := func(n int) graph {
+		g := deep(n)
+		for i := range n - 1 {
+			g[i].Kids = append(g[i].Kids, n-1)
+		}
+		return g
+	}
+	for n, want := range map[int]api.Errno{100: api.OK, 101: api.ErrSize} {
+		if _, e := forms.Build(ahead(n)); e != want {
+			t.Errorf("Build of the depth %d in first elements: %v", n, e)
 		}
 	}
 	var list graph

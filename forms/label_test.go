@@ -216,6 +216,13 @@ func TestPlainIsTooGreat(t *testing.T) {
 		if _, e := forms.Plain(node(api.FormVector, "", inner, nested(depth, node(api.FormRef, "1")))); e != want {
 			t.Errorf("Plain with the depth %d: %v", depth+50, e)
 		}
+		ahead := node(api.FormRef, "1")
+		for range depth - 1 {
+			ahead = node(api.FormVector, "", ahead, symbol("B"))
+		}
+		if _, e := forms.Plain(node(api.FormVector, "", inner, ahead, symbol("C"))); e != want {
+			t.Errorf("Plain with the depth %d in first elements: %v", depth+50, e)
+		}
 	}
 }
 

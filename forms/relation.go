@@ -25,12 +25,11 @@ func agreement(relation int, a, b Node) int {
 	if a.Kind != b.Kind || a.Text != b.Text || len(a.Kids) != len(b.Kids) {
 		return disagree
 	}
-	least, decided := relation, agree
+	least, decided := byEql, agree
 	switch a.Kind {
 	case api.FormInt, api.FormRatio, api.FormSingle, api.FormDouble, api.FormChar:
-		least = byEql
 	case api.FormComplex:
-		least, decided = byEql, asParts
+		decided = asParts
 	case api.FormString, api.FormBits:
 		least = byEqual
 	case api.FormCons:

@@ -34,6 +34,21 @@ func TestRelationsOfForms(t *testing.T) {
 	}
 }
 
+// Symbols of one name and two homes are two objects.
+func TestRelationsOfSymbols(t *testing.T) {
+	g := graph{cons(1, 4), cons(2, 3), name("A"), null, cons(5, 3), {Kind: api.FormSymbol, Text: "A", Home: "Q"}}
+	for n, related := range relations {
+		for _, pair := range [][2]int{{2, 5}, {1, 4}, {3, 2}} {
+			if is, e := related(g, pair[0], pair[1]); is || e != api.OK {
+				t.Errorf("relation %d of %v: %v, %v", n, pair, is, e)
+			}
+		}
+	}
+	if c, e := forms.Coalesce(g); e != api.OK || !equalGraphs(c, g) {
+		t.Errorf("Coalesce of symbols with two homes: %v, %v", c, e)
+	}
+}
+
 // greatest returns a relation of all pairs by its definition: all pairs are in it at first, and those that do not agree are taken out as long as there are some.
 func greatest(g []forms.Node, relation int) [][]bool {
 	is := make([][]bool, len(g))

@@ -27,7 +27,7 @@ func (w *work) need(holds bool, e api.Errno) {
 	}
 }
 
-// read returns the numbers of forms.
+// read returns the number of a form.
 func (w *work) read(x api.Form) number {
 	n, e := parse(x)
 	w.fail(e)
