@@ -209,12 +209,15 @@ func TestPowerLimits(t *testing.T) {
 		}
 		return x
 	}
+	inverse := func(x api.Form) api.Form { return api.Form{Kind: api.FormRatio, Text: "1/" + x.Text} }
+	widest, _ := number.Sub(twoTo(32768), num(t, "1")) // its square has just as many digits as are allowed
 	for _, c := range []struct {
 		x    api.Form
 		n    int
 		want string
 	}{
 		{twoTo(16), 4096, "!large"}, {twoTo(16), 4095, ""}, {twoTo(16), -4096, "!large"}, {twoTo(16), -4095, ""}, {twoTo(32768), 2, "!large"}, {twoTo(32767), 2, ""}, {twoTo(65535), 1, ""}, {twoTo(65535), 2, "!large"}, {ofBytes(api.MaxDigits), 1, ""}, {ofBytes(api.MaxDigits), 2, "!large"}, {ofBytes(api.MaxDigits), -1, "!large"}, {ofBytes(api.MaxDigits - 2), -1, ""},
+		{widest, 2, ""}, {inverse(widest), 2, ""}, {inverse(widest), -2, ""}, {inverse(twoTo(32768)), 2, "!large"}, {inverse(twoTo(32767)), 2, ""}, {inverse(widest), 3, "!large"},
 		{api.Form{Kind: api.FormRatio, Text: "1/" + ofBytes(10001).Text}, 2, "!large"}, {api.Form{Kind: api.FormRatio, Text: ofBytes(6000).Text + "/1" + strings.Repeat("0", 5999)}, 2, "!large"}, {api.Form{Kind: api.FormComplex, Kids: []api.Form{twoTo(40000), num(t, "1")}}, 2, "!large"}, {api.Form{Kind: api.FormComplex, Kids: []api.Form{num(t, "1"), twoTo(40000)}}, 2, "!large"}, {num(t, "(1/7 100000)"), 4096, "!large"}, {num(t, "10"), 4096, ""}, {num(t, "1/10"), -4096, ""},
 	} {
 		got, e := number.Power(c.x, c.n)
@@ -238,6 +241,14 @@ func TestRoot(t *testing.T) {
 		got, e := number.Root(num(t, c.x))
 		expect(t, "Root of "+c.x, got, e, c.want)
 	}
+	// The root is a bit less, or more, than 1 + 3/2^24, the middle of 3f800001 and 3f800002.
+	middle := big.NewRat(1<<24+3, 1<<24)
+	square := new(big.Rat).Mul(middle, middle)
+	bit := new(big.Rat).SetFrac(big.NewInt(1), new(big.Int).Lsh(big.NewInt(1), 100))
+	got, e := number.Root(exactOf(new(big.Rat).Sub(square, bit)))
+	is(t, "Root of a bit less", got, e, api.Form{Kind: api.FormSingle, Text: "3f800001"})
+	got, e = number.Root(exactOf(new(big.Rat).Add(square, bit)))
+	is(t, "Root of a bit more", got, e, api.Form{Kind: api.FormSingle, Text: "3f800002"})
 	for _, x := range exacts(t, 2, 200) {
 		if x.Kind == api.FormComplex {
 			continue
