@@ -246,6 +246,9 @@ func TestBuildLimits(t *testing.T) {
 			t.Errorf("Build of a vector of %d symbols: %v", n, e)
 		}
 	}
+}
+
+func TestBuildDepths(t *testing.T) {
 	deep := func(n int) graph {
 		var g graph
 		for i := range n - 1 {

@@ -24,7 +24,7 @@ func Equals(x, y api.Form) (bool, api.Errno) {
 
 // order compares the values of two real numbers.
 func order(x, y scalar) int {
-	return x.ratio().Cmp(y.ratio())
+	return x.exactValue().Cmp(y.exactValue())
 }
 
 // Eql reports whether x and y are the same number of the same kind.

@@ -65,8 +65,8 @@ func format(kind int) float.Format {
 	return float.Double
 }
 
-// ratio returns the exact value.
-func (x scalar) ratio() rational.Ratio {
+// exactValue returns the value, of a float too.
+func (x scalar) exactValue() rational.Ratio {
 	if x.kind == exact {
 		return x.value
 	}
@@ -75,7 +75,7 @@ func (x scalar) ratio() rational.Ratio {
 }
 
 func (x scalar) sign() int {
-	return x.ratio().Sign()
+	return x.exactValue().Sign()
 }
 
 // isInteger reports whether the number is of the kind of integers, whatever its value.

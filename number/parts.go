@@ -16,7 +16,7 @@ func Quotient(way int, x, y api.Form) (quotient, remainder api.Form, e api.Errno
 	if w.e != api.OK {
 		return api.Form{}, api.Form{}, w.e
 	}
-	q, r, e := a.parts[0].ratio().Quotient(way, b.parts[0].ratio())
+	q, r, e := a.parts[0].exactValue().Quotient(way, b.parts[0].exactValue())
 	w.fail(e)
 	alike, _ := w.common(a.parts[0], b.parts[0])
 	rest := w.as(alike.kind, ratio(r))
@@ -81,7 +81,7 @@ func partOfRatio(x api.Form, part func(rational.Ratio) integer.Int) (api.Form, a
 // Rational returns the exact value of a real x.
 func Rational(x api.Form) (api.Form, api.Errno) {
 	return changedReal(x, func(w *work, a scalar) scalar {
-		return ratio(a.ratio())
+		return ratio(a.exactValue())
 	})
 }
 
@@ -89,7 +89,7 @@ func Rational(x api.Form) (api.Form, api.Errno) {
 func Rationalize(x api.Form) (api.Form, api.Errno) {
 	return changedReal(x, func(w *work, a scalar) scalar {
 		if a.kind == exact || a.sign() == 0 {
-			return ratio(a.ratio())
+			return ratio(a.exactValue())
 		}
 		low, high := roundingBounds(a)
 		simplest, e := rational.Simplest(low, high)
@@ -100,7 +100,7 @@ func Rationalize(x api.Form) (api.Form, api.Errno) {
 
 // roundingBounds returns the least and the greatest of the fractions to which a float other than 0 is the nearest one, or bounds between which the simplest one of them is the same.
 func roundingBounds(x scalar) (low, high rational.Ratio) {
-	value := x.ratio()
+	value := x.exactValue()
 	half, _ := rational.New(integer.New(1), integer.New(2))
 	below, some := x.distance(false)
 	above, more := x.distance(true)
@@ -125,7 +125,7 @@ func (x scalar) distance(up bool) (rational.Ratio, bool) {
 	if e != api.OK {
 		return rational.Ratio{}, false
 	}
-	return floating(x.kind, next).ratio().Sub(x.ratio()).Abs(), true
+	return floating(x.kind, next).exactValue().Sub(x.exactValue()).Abs(), true
 }
 
 // Float returns x as a float of a kind.
