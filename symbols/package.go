@@ -22,7 +22,7 @@ func (t *Table) Make(name string, nicknames, uses []string) api.Errno {
 	switch {
 	case e != api.OK:
 		return e
-	case doClash(used):
+	case t.hasConflict(&pack{uses: used}):
 		return ErrClash
 	case len(t.packages) >= maxPackages:
 		return api.ErrFull
@@ -62,12 +62,21 @@ func (t *Table) findUsed(names []string) ([]*pack, api.Errno) {
 	return l, api.OK
 }
 
-// doClash reports whether packages have different external symbols with the same name.
-func doClash(l []*pack) bool {
-	all := &pack{uses: l}
-	for _, p := range l {
-		for name := range p.present {
-			if all.isAmbiguous(name) {
+// hasConflict reports whether a name has several meanings in a package.
+func (t *Table) hasConflict(p *pack) bool {
+	meanings := map[string]int{}
+	maps.Copy(meanings, p.present)
+	isOther := func(n int) bool {
+		name := t.symbols[n].name
+		first, some := meanings[name]
+		if !some {
+			meanings[name] = n
+		}
+		return some && first != n && !p.shadowing[first]
+	}
+	for _, other := range p.uses {
+		for n := range other.external {
+			if isOther(n) {
 				return true
 			}
 		}

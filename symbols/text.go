@@ -212,7 +212,7 @@ func (t *Table) isRight() bool {
 				return false
 			}
 		}
-		if p.hasConflict() {
+		if t.hasConflict(p) {
 			return false
 		}
 	}
@@ -241,28 +241,4 @@ func (t *Table) hasFirst() bool {
 func (p *pack) hasPresent(n int, name string) bool {
 	k, is := p.present[name]
 	return is && k == n
-}
-
-// hasConflict reports whether a name has several meanings in a package.
-func (p *pack) hasConflict() bool {
-	isAmbiguous := func(name string) bool {
-		n, is := p.present[name]
-		if !is {
-			return p.isAmbiguous(name)
-		}
-		for other := range p.inherited(name) {
-			if other != n && !p.shadowing[n] {
-				return true
-			}
-		}
-		return false
-	}
-	for _, other := range p.uses {
-		for name := range other.present {
-			if isAmbiguous(name) {
-				return true
-			}
-		}
-	}
-	return false
 }
