@@ -241,6 +241,20 @@ func TestMemory(t *testing.T) {
 	if !same(dump(r), want) {
 		t.Error("the room shares memory")
 	}
+	stack := mustMake(t, r, filled(0, 1), num(0))
+	z, more := forms.List([]api.Form{num(3)}), forms.List([]api.Form{num(4)})
+	is(t, "Adjust", r.Adjust(stack, []int{3}, 1, z), api.OK)
+	if n, e := r.Push(stack, more, 0); n != 1 || e != api.OK {
+		t.Errorf("Push = %d, %v", n, e)
+	}
+	shows := mustMake(t, r, own(1), num(0))
+	one := []int{1}
+	is(t, "Displace", r.Displace(shows, one, stack, 2), api.OK)
+	want = dump(r)
+	z.Kids[0].Text, more.Kids[0].Text, one[0] = "9", "9", 9
+	if !same(dump(r), want) {
+		t.Error("the room shares memory")
+	}
 	b := mustMake(t, r, own(3), y)
 	l, _ = r.Contents(b)
 	l[0].Kids[0].Text = "8"

@@ -96,15 +96,12 @@ func TestArguments(t *testing.T) {
 	}
 	wide := node(api.FormVector, "", many(1999, num(1))...)
 	complex := node(api.FormComplex, "", num(1), num(2))
-	for i, x := range []api.Form{
-		num(1), deep, wide, label("0", list(ref)), label("0", num(1)), label("0", complex), label("7", str("a")), label("0", node(api.FormArray, "", ref)), str(strings.Repeat("a", 200000)), long(30000), node(api.FormSingle, "7f800000"), list(node(api.FormDouble, "ffffffffffffffff")), node(api.FormArray, "", node(api.FormSingle, "7fffffff")), list(api.Form{Kind: api.FormSymbol, Text: "QUOTE", Home: "COMMON-LISP"}, node(api.FormSingle, "7fffffff")), node(api.FormRatio, "1000000000000000000/2000000000000000000"),
+	for _, x := range []api.Form{
+		num(1), deep, wide, label("0", node(api.FormVector, "", many(1998, num(1))...)), label("0", list(node(api.FormSingle, "7f800000"))), label("0", list(ref)), label("0", num(1)), label("0", complex), label("7", str("a")), label("0", node(api.FormArray, "", ref)), str(strings.Repeat("a", 200000)), long(30000), node(api.FormSingle, "7f800000"), list(node(api.FormDouble, "ffffffffffffffff")), node(api.FormArray, "", node(api.FormSingle, "7fffffff")), list(api.Form{Kind: api.FormSymbol, Text: "QUOTE", Home: "COMMON-LISP"}, node(api.FormSingle, "7fffffff")), node(api.FormRatio, "1000000000000000000/2000000000000000000"),
 		node(api.FormVector, "", append([]api.Form{label("0", complex)}, many(1995, ref)...)...),
 	} {
 		made(t, "a", []api.Form{x}, "a", api.OK)
 		made(t, "a~2*", []api.Form{x}, "", api.ErrNone)
-		if i > 99 {
-			t.Fatal()
-		}
 	}
 	for _, x := range []api.Form{
 		{}, node(api.FormInt, "01"), node(99, ""), ref, list(ref), label("0", ref), label("0", label("1", num(1))), list(label("0", str("")), label("0", str(""))), list(deep), node(api.FormVector, "", append(many(1999, num(1)), num(1))...), str("\xff"), node(api.FormChar, "ab"), node(api.FormCons, "", num(1)), node(api.FormVector, "x"), node(api.FormRatio, "2/4"), node(api.FormSymbol, "A", many(1999, num(1))...), node(api.FormLabel, "0"), label("1000", str("")), {Kind: api.FormInt, Text: "1", Home: "P"}, node(api.FormLabel, "0", num(1), num(2)),

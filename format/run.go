@@ -144,7 +144,7 @@ func (c *call) value() parameter {
 	return p
 }
 
-// parameterOf returns the parameter that an argument is. A number beyond the limit becomes one that is beyond it, too.
+// parameterOf returns the parameter that an argument is. For a number that is too long for Go any one does that is in no range.
 func parameterOf(x api.Form) parameter {
 	switch {
 	case isNil(x):
@@ -155,7 +155,7 @@ func parameterOf(x api.Form) parameter {
 		panic(api.ErrType)
 	}
 	n, err := strconv.Atoi(x.Text)
-	if err != nil || n > maxTaken || n < -maxTaken {
+	if err != nil {
 		n = maxTaken + 1
 	}
 	return parameter{kind: integral, number: n}

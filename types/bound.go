@@ -29,7 +29,7 @@ func (x end) form() api.Form {
 	if x.infinite != 0 {
 		return forms.Symbol(lisp, "*")
 	}
-	return copied(x.value)
+	return x.value
 }
 
 func (x end) sign() int {

@@ -119,7 +119,7 @@ func floatForm(kind int, bits uint64) api.Form {
 	return api.Form{Kind: kind, Text: strings.Repeat("0", layoutOf(kind).digits-len(text)) + text}
 }
 
-// floats returns the floats of a kind around all values, both zeros, and the last ones on both sides.
+// floats returns the floats of a kind around all values: between two of them, if there are any there, the least one; both zeros, and the last ones on both sides.
 func (m *mentions) floats(kind int) []api.Form {
 	last := api.Form{Kind: kind, Text: layoutOf(kind).greatest}
 	zero := floatForm(kind, 0)
@@ -130,19 +130,11 @@ func (m *mentions) floats(kind int) []api.Form {
 			continue // beyond the last ones
 		}
 		l = append(l, near)
-		l = append(l, neighbours(near)...)
-	}
-	return l
-}
-
-// neighbours returns the next floats of a float on both sides, as far as there are any.
-func neighbours(x api.Form) []api.Form {
-	bits, _ := strconv.ParseUint(x.Text, 16, wordBits)
-	var l []api.Form
-	for _, up := range [...]bool{false, true} {
-		next, e := float.Next(layoutOf(x.Kind).format, bits, up)
+		// The least float above the value is this one, or the next one.
+		bits, _ := strconv.ParseUint(near.Text, 16, wordBits)
+		next, e := float.Next(layoutOf(kind).format, bits, true)
 		if e == api.OK {
-			l = append(l, floatForm(x.Kind, next))
+			l = append(l, floatForm(kind, next))
 		}
 	}
 	return l

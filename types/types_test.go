@@ -209,13 +209,15 @@ func TestOf(t *testing.T) {
 	if got, e := types.Of(node(api.FormInt, strings.Repeat("7", 200))); e != api.OK || got.Kind != api.FormCons {
 		t.Errorf("Of a number with 200 digits = %s, %v", text(got), e)
 	}
-	// a type of more than 100 nodes
-	tree := node(api.FormArray, "0 0 0 0")
-	for range 4 {
-		tree = forms.Dotted([]api.Form{tree}, tree)
-	}
-	if is, e := types.Of(tree); e != api.OK || types.Check(is) != api.OK {
-		t.Errorf("Of a tree = %s, %v", text(is), e)
+	// eight leaves of a tree, of which seven have ten nodes, and one nine, or ten: types of 100 and 101 nodes
+	leaf := func(dims string) api.Form { return node(api.FormArray, dims) }
+	pair := func(x, y api.Form) api.Form { return forms.Dotted([]api.Form{x}, y) }
+	for dims, want := range map[string]int{"0 0 0": 100, "0 0 0 0": 1} {
+		four := pair(pair(leaf("0 0 0 0"), leaf("0 0 0 0")), pair(leaf("0 0 0 0"), leaf("0 0 0 0")))
+		of, e := types.Of(pair(four, pair(pair(leaf("0 0 0 0"), leaf("0 0 0 0")), pair(leaf("0 0 0 0"), leaf(dims)))))
+		if nodes, _ := forms.Size(of); e != api.OK || nodes != want || types.Check(of) != api.OK {
+			t.Errorf("Of a tree = %s, %v", text(of), e)
+		}
 	}
 	l := read(t, "((1) 2)")
 	of, _ := types.Of(l)
