@@ -15,8 +15,11 @@ const (
 
 // isEphemeron reports whether an object has a key and a value of its own kind; one that is too short has not.
 func isEphemeron(h *heap.Heap, w heap.Word) bool {
+	if h.Kind(w) != heap.KindEphemeron {
+		return false
+	}
 	_, e := h.Get(w, valueField)
-	return e == api.OK && h.Kind(w) == heap.KindEphemeron
+	return e == api.OK
 }
 
 // fields goes through the fields of an object from one of them on; there are none in an object with bytes.
@@ -51,7 +54,7 @@ func strong(h *heap.Heap, w heap.Word) iter.Seq[heap.Word] {
 
 // reached returns the objects that are reached from some words.
 func reached(h *heap.Heap, from []heap.Word) map[heap.Word]bool {
-	met := map[heap.Word]bool{}
+	met := make(map[heap.Word]bool, h.Used()/4)
 	var queue []heap.Word
 	meet := func(w heap.Word) {
 		if w.IsRef() && !met[w] {
@@ -70,7 +73,7 @@ ask:
 		for x := range strong(h, w) {
 			meet(x)
 		}
-		queue = append(queue, waiting[w]...)
+		queue = append(queue, waiting[w]...) // these are asked again, now that their key is met
 		delete(waiting, w)
 		if !isEphemeron(h, w) {
 			continue ask

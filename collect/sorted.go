@@ -1,6 +1,10 @@
 package collect
 
-import "commonform/heap"
+import (
+	"slices"
+
+	"commonform/heap"
+)
 
 // A sorted heap has the objects that a collection keeps, by the space in which they lie behind it, in order.
 type sorted struct {
@@ -25,18 +29,16 @@ func (s *sorted) sort(h *heap.Heap, objects []heap.Word, aged int) {
 	}
 }
 
-// lose takes what is let go out of the weak references and ephemerons that are kept, and returns out of how many.
+// lose returns how many weak references and ephemerons that are kept lose what they refer to. Keep makes the reference Unbound, so here only the value is left to do.
 func (s *sorted) lose(h *heap.Heap) int {
 	lost := 0
-	for _, l := range [][]heap.Word{s.old, s.young} {
-		for _, w := range l {
-			if s.loses(h, w) {
-				lost++
-				h.Set(w, keyField, heap.Unbound)
-				if isEphemeron(h, w) {
-					h.Set(w, valueField, heap.Unbound)
-				}
-			}
+	for _, w := range slices.Concat(s.old, s.young) {
+		if !s.loses(h, w) {
+			continue
+		}
+		lost++
+		if isEphemeron(h, w) {
+			h.Set(w, valueField, heap.Unbound)
 		}
 	}
 	return lost
