@@ -3,6 +3,7 @@ package table_test
 import (
 	"math/rand"
 	"slices"
+	"strconv"
 	"strings"
 	"testing"
 
@@ -204,5 +205,42 @@ func TestGreatObjects(t *testing.T) {
 	}
 	if z := raw(t, h, heap.KindInt, digits+"7"); same(t, h, table.EqlTest, z, raw(t, h, heap.KindInt, digits+"7")) {
 		t.Error("what has too many digits for a number is one")
+	}
+}
+
+// Hashes tell most words apart: without that they would be of no use.
+func TestHashesDiffer(t *testing.T) {
+	h := mustHeap(t, 30000)
+	for _, c := range []struct {
+		what  string
+		tests []int
+		make  func(i int) heap.Word
+	}{
+		{"fixnums", []int{table.Eq, table.EqlTest, table.EqualTest, table.EqualpTest}, fix},
+		{"characters", []int{table.Eq, table.EqlTest, table.EqualTest, table.EqualpTest}, func(i int) heap.Word { return char(rune(200 + i)) }},
+		{"boxes", []int{table.Eq, table.EqlTest}, func(i int) heap.Word { return made(t, h, heap.KindBox, fix(7)) }},
+		{"ratios", []int{table.EqlTest, table.EqualTest, table.EqualpTest}, func(i int) heap.Word { return raw(t, h, heap.KindRatio, strconv.Itoa(2*i+1)+"/2") }},
+		{"complex numbers", []int{table.EqlTest, table.EqualpTest}, func(i int) heap.Word { return made(t, h, heap.KindComplex, fix(5), fix(i+1)) }},
+		{"strings", []int{table.EqualTest, table.EqualpTest}, func(i int) heap.Word { return str(t, h, "key"+strconv.Itoa(i)) }},
+		{"bits", []int{table.EqualTest, table.EqualpTest}, func(i int) heap.Word { return raw(t, h, heap.KindBits, strconv.FormatInt(int64(i), 2)) }},
+		{"lists", []int{table.EqualTest, table.EqualpTest}, func(i int) heap.Word { return list(t, h, fix(1), str(t, h, "a"), fix(i)) }},
+		{"vectors", []int{table.EqualpTest}, func(i int) heap.Word { return made(t, h, heap.KindVector, fix(i%20), fix(i/20)) }},
+		{"lengths", []int{table.EqualpTest}, func(i int) heap.Word {
+			return made(t, h, heap.KindVector, slices.Repeat([]heap.Word{heap.Nil}, i%60)...)
+		}},
+	} {
+		for _, test := range c.tests {
+			seen := map[uint64]bool{}
+			n := 200
+			if c.what == "lengths" {
+				n = 60
+			}
+			for i := range n {
+				seen[hash(t, h, test, c.make(i))] = true
+			}
+			if len(seen) < n-2 {
+				t.Errorf("%d %s have %d hashes by the test %d", n, c.what, len(seen), test)
+			}
+		}
 	}
 }
