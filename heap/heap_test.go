@@ -109,6 +109,9 @@ func TestLastWord(t *testing.T) {
 	for h.Used() < 64 {
 		l = append(l, raw(t, h, heap.KindString, ""))
 	}
+	if h.Place(ref(63)) != 63 || h.Place(ref(64)) != -1 || h.Kind(ref(64)) != 0 {
+		t.Error("the last place")
+	}
 	before := dumpOf(h)
 	for _, e := range []api.Errno{second(h.New(1, 0)), second(h.Raw(1, "")), second(h.Lay([]heap.Cell{{Kind: 1}}, nil))} {
 		is(t, "one word more", e, api.ErrWords)

@@ -31,14 +31,14 @@ func (s sum) withText(text string) sum {
 	return s.with(uint64(len(text)))
 }
 
-// hash returns the hash of a word. If places count, that of an object without looked-at parts goes by its place, otherwise by what never changes of it.
+// hash returns the hash of a word. If places count, an object of which the test looks at nothing but the place goes by this, otherwise by what a move does not change.
 func (v view) hash(w heap.Word, places bool) uint64 {
 	x := hasher{view: v, places: places, left: hashedWords, sum: newSum(uint64(v.test))}
 	x.add(w)
 	return uint64(x.sum)
 }
 
-// A hasher goes through the words of an object, and of its parts, as they would be met if each were met once only: what is the same looks the same so, circles too.
+// A hasher goes through an object and its parts as through a tree, up to so many words: so circles look the same, of however many objects they are.
 type hasher struct {
 	view
 	places bool
