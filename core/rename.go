@@ -8,28 +8,20 @@ import (
 )
 
 // renumber returns a tree whose numbers are those that f tells for each of them.
-func renumber(c api.Core, f func(numbering, n int) int) api.Core {
-	again := api.Core{Op: c.Op, N: c.N, Data: copiedForm(c.Data)}
-	if numbering, ok := numberingOf(c.Op); ok {
-		again.N = f(numbering, c.N)
+func renumber(c api.Core, f func(n int) int) api.Core {
+	again := api.Core{Op: c.Op, N: c.N, Syms: slices.Clone(c.Syms), Data: copiedForm(c.Data)}
+	if _, ok := numberingOf(c.Op); ok {
+		again.N = f(c.N)
 	}
 	for _, n := range c.Vars {
-		numbering := variables
-		if c.Op == api.CoreTagbody {
-			numbering = tags
-		}
-		again.Vars = append(again.Vars, f(numbering, n))
+		again.Vars = append(again.Vars, f(n))
 	}
 	for _, p := range c.Pars {
-		p.Var = f(variables, p.Var)
+		p.Var = f(p.Var)
 		if p.Given != none {
-			p.Given = f(variables, p.Given)
+			p.Given = f(p.Given)
 		}
-		p.Key = copiedForm(p.Key)
 		again.Pars = append(again.Pars, p)
-	}
-	for _, s := range c.Syms {
-		again.Syms = append(again.Syms, copiedForm(s))
 	}
 	for _, k := range c.Kids {
 		again.Kids = append(again.Kids, renumber(k, f))
@@ -55,10 +47,8 @@ func Renamed(c api.Core, by int) (api.Core, api.Errno) {
 	if Check(c) != api.OK {
 		return api.Core{}, api.ErrForm
 	}
-	// No sum of a number and a greater one than this is in the range; so none has more digits than an int.
-	by = max(min(by, greatest+1), -greatest-1)
 	fits := true
-	again := renumber(c, func(_, n int) int {
+	again := renumber(c, func(n int) int {
 		n += by
 		fits = fits && n >= 0 && n <= greatest
 		return n
