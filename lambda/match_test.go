@@ -65,6 +65,8 @@ func TestMatchErrors(t *testing.T) {
 		{"(&key x)", ":y 3", api.ErrNone},
 		{"(&key x)", "5 3", api.ErrNone},
 		{"(&key)", ":x 3", api.ErrNone},
+		{"(&key x)", ":x 3 :y 4", api.ErrNone},
+		{"(&key x)", ":x 3 :x 4 :y", api.ErrForm},
 		{"(&key x)", ":allow-other-keys nil :y 3", api.ErrNone},
 		{"(&key x)", ":y 3 :allow-other-keys nil :allow-other-keys t", api.ErrNone},
 		{"(&key x &allow-other-keys)", ":x", api.ErrForm},

@@ -28,6 +28,7 @@ func TestParse(t *testing.T) {
 		{"(a &rest r &key k &allow-other-keys &aux x)", "1:a 3:r 4:k=nil@:k 5:x=nil keys allow", "1:a 3:r 4:k=nil@:k 5:x=nil keys allow"},
 		{"(#:a #:nil)", "1:#:a 1:#:nil", "1:#:a 1:#:nil"},
 		{"(&optional (a #1=(x)) (b #1#))", "2:a=(x) 2:b=?", "2:a=(x) 2:b=?"},
+		{"(#:&rest #:t reader::&key)", "1:#:&rest 1:#:t 1:reader::&key", "1:#:&rest 1:#:t 1:reader::&key"},
 		{"(a . b)", "-", "1:a 3:b"},
 		{"((a b) . c)", "-", "1:[1:a 1:b] 3:c"},
 		{"(nil a)", "-", "1:[] 1:a"},

@@ -104,11 +104,7 @@ func (w *World) newArray(size, initial heap.Word) heap.Word {
 		if _, ok := d.Fixnum(); !ok {
 			panic(limit(api.ErrWords))
 		}
-		n *= min(count(d), mostElements+1)
-		n = min(n, mostElements+1)
-	}
-	if slices.Contains(dims, fixnum(0)) {
-		n = 0
+		n = min(n*min(count(d), mostElements+1), mostElements+1)
 	}
 	if n > mostElements || len(dims) > mostRank {
 		panic(limit(api.ErrWords))

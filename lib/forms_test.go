@@ -109,12 +109,19 @@ func TestBuildErrors(t *testing.T) {
 		{list(sym("", long), sym("NOPE", "X")), api.ErrSize},
 		{list(great, sym("NOPE", "X")), api.ErrNone},
 		{list(sym("COMMON-LISP-USER", "NEW"), great), api.ErrWords},
+		{node(api.FormString, strings.Repeat("x", 131072)), api.OK},
 		{node(api.FormString, strings.Repeat("x", 131073)), api.ErrWords},
 		{node(api.FormInt, "1"+strings.Repeat("0", 131072)), api.ErrWords},
+		{list(great, node(api.FormString, strings.Repeat("x", 131073)), great), api.ErrWords},
+		{sym("COMMON-LISP", long[1:]), api.OK},
+		{sym("", long[1:]), api.OK},
 	} {
 		w := tightWorld(t, 60)
+		if len(c.f.Text) > 1000 {
+			w = newWorld(t)
+		}
 		before, used := state(t, w), w.Heap().Used()
-		if x, e := w.Build(c.f); x != 0 || e != c.e || state(t, w) != before || w.Heap().Used() != used {
+		if x, e := w.Build(c.f); e != c.e || e != api.OK && (x != 0 || state(t, w) != before || w.Heap().Used() != used) {
 			t.Errorf("%d: Build: %v; want %v", i, e, c.e)
 		}
 	}
@@ -137,8 +144,8 @@ func TestBuildRoom(t *testing.T) {
 			continue
 		}
 		w = tightWorld(t, c.words-1)
-		before := state(t, w)
-		if x, e := w.Build(read(t, c.s)); x != 0 || e != api.ErrWords || state(t, w) != before {
+		before, used := state(t, w), w.Heap().Used()
+		if x, e := w.Build(read(t, c.s)); x != 0 || e != api.ErrWords || state(t, w) != before || w.Heap().Used() != used {
 			t.Errorf("Build(%s) with %d words: %v; want ErrWords", c.s, c.words-1, e)
 		}
 	}

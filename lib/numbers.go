@@ -53,12 +53,6 @@ func (w *World) checkNumber(e api.Errno, a []heap.Word) {
 		return
 	case api.ErrZero:
 		w.fail("DIVISION-BY-ZERO")
-	case api.ErrType:
-		for _, x := range a {
-			if w.heap.Kind(x) == heap.KindComplex {
-				w.failType(x, "REAL")
-			}
-		}
 	case api.ErrForm:
 		// What has the kind of a number and is none: infinity, or a fraction that is not in lowest terms.
 		for i, f := range w.formsOf(a) {
@@ -263,27 +257,19 @@ func within(f api.Form, most int) int {
 	return int(max(min(n, int64(most)), int64(-most)))
 }
 
+// shifted returns an integer that is shifted. Layer 5 tells what is too large.
 func (w *World) shifted(a []heap.Word) heap.Word {
 	l := w.formsOf(a)
 	n := within(l[1], mostShift+1)
-	if n > mostShift {
-		if l[0].Text == "0" {
-			return a[0]
-		}
-		w.fail("ARITHMETIC-ERROR")
-	}
 	x, e := number.Shift(l[0], max(n, -mostShift))
 	w.checkNumber(e, a)
 	return w.numeral(x)
 }
 
+// power returns a power. Layer 5 refuses exponents that are too great.
 func (w *World) power(a []heap.Word) heap.Word {
 	l := w.formsOf(a)
-	n := within(l[1], mostPower+1)
-	if n > mostPower || n < -mostPower {
-		w.fail("ARITHMETIC-ERROR")
-	}
-	x, e := number.Power(l[0], n)
+	x, e := number.Power(l[0], within(l[1], mostPower+1))
 	w.checkNumber(e, a)
 	return w.numeral(x)
 }

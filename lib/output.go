@@ -28,43 +28,25 @@ func (w *World) typeOf(x heap.Word) api.Form {
 	return f
 }
 
-func hasLabel(f api.Form) bool {
-	if f.Kind == api.FormLabel {
-		return true
-	}
-	for _, k := range f.Kids {
-		if hasLabel(k) {
-			return true
-		}
-	}
-	return false
-}
-
 // isOfType reports whether an object is of a type. What has labels is known by its kind alone.
 func (w *World) isOfType(x, t heap.Word) bool {
 	specifier := w.typeOf(t)
-	unknown := forms.Symbol(strange, "OBJECT")
-	f := w.formOf(x)
-	if hasLabel(f) {
-		f = unknown
-		if w.isCons(x) {
-			f = forms.Dotted([]api.Form{unknown}, unknown)
-		}
+	is, e := types.Typep(w.formOf(x), specifier)
+	if e == api.OK {
+		return is
 	}
-	is, e := types.Typep(f, specifier)
-	if e != api.OK {
-		is, _ = types.Typep(unknown, specifier)
+	f := forms.Symbol(strange, "OBJECT")
+	if w.isCons(x) {
+		f = forms.Dotted([]api.Form{f}, f)
 	}
+	is, _ = types.Typep(f, specifier)
 	return is
 }
 
 func (w *World) isSubtype(x, y heap.Word) []heap.Word {
 	a := w.typeOf(x)
 	b := w.typeOf(y)
-	is, _, e := types.Subtypep(a, b)
-	if e != api.OK {
-		w.fail("SIMPLE-ERROR", x)
-	}
+	is, _, _ := types.Subtypep(a, b)
 	return values(w.truth(is), w.truth(true))
 }
 

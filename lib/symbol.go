@@ -182,11 +182,8 @@ func (w *World) Name(x heap.Word) (home, name string, e api.Errno) {
 		return "", "", e
 	}
 	n, ok := field.Fixnum()
-	if !ok || n < 0 || n >= api.MaxSymbols {
-		return "", "", ErrNoSymbol
-	}
 	name, home, e = w.table.Symbol(int(n))
-	if e != api.OK {
+	if !ok || e != api.OK {
 		return "", "", ErrNoSymbol
 	}
 	return home, name, api.OK

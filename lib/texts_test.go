@@ -19,7 +19,7 @@ func TestCharactersAndStrings(t *testing.T) {
 		{"(string= \"ab\" \"ab\")", "t"}, {"(string= \"ab\" \"aB\")", "nil"}, {"(string= \"ab\" \"abc\")", "nil"}, {"(string= \"ab\" ab)", "! TYPE-ERROR ab string"},
 		{"(string< \"ab\" \"abc\")", "2"}, {"(string< \"abc\" \"ab\")", "nil"}, {"(string< \"ab\" \"ab\")", "nil"}, {"(string< \"aa\" \"ab\")", "1"}, {"(string< \"éa\" \"éb\")", "1"}, {"(string< \"b\" \"a\")", "nil"}, {"(string< \"\" \"\")", "nil"}, {"(string< \"\" \"a\")", "0"}, {"(string< \"az\" \"é\")", "0"},
 		{"(concat)", "\"\""}, {"(concat \"a\" \"\" \"é\")", "\"aé\""}, {"(concat \"a\" 5)", "! TYPE-ERROR 5 string"},
-		{"(subseq \"hello\" 1 3)", "\"el\""}, {"(subseq \"héllo\" 2)", "\"llo\""}, {"(subseq \"hello\" 5)", "\"\""}, {"(subseq \"hello\" 6)", "! TYPE-ERROR 6 integer"}, {"(subseq \"hello\" 2 6)", "! TYPE-ERROR 6 integer"}, {"(subseq \"hello\" 2 1)", "! TYPE-ERROR 1 integer"}, {"(subseq \"hello\" 6 1)", "! TYPE-ERROR 6 integer"}, {"(subseq \"hello\" 2 2)", "\"\""},
+		{"(subseq \"hello\" 1 3)", "\"el\""}, {"(subseq \"héllo\" 2)", "\"llo\""}, {"(subseq \"hello\" 5)", "\"\""}, {"(subseq \"hello\" 6)", "! TYPE-ERROR 6 integer"}, {"(subseq \"hello\" 1 5)", "\"ello\""}, {"(subseq \"hello\" 2 6)", "! TYPE-ERROR 6 integer"}, {"(subseq \"hello\" 2 1)", "! TYPE-ERROR 1 integer"}, {"(subseq \"hello\" 6 1)", "! TYPE-ERROR 6 integer"}, {"(subseq \"hello\" 2 2)", "\"\""},
 		{"(subseq (1 2 3) 1)", "(2 3)"}, {"(subseq (1 2 3) 1 2)", "(2)"}, {"(subseq (1 2 3) 3)", "nil"}, {"(subseq nil 0)", "nil"}, {"(subseq nil 1)", "! TYPE-ERROR 1 integer"}, {"(subseq #(1 2 3) 1 2)", "#(2)"}, {"(subseq #(1 2 3) 3)", "#()"}, {"(subseq #*0110 1 3)", "#*11"}, {"(subseq 5 0)", "! TYPE-ERROR 5 sequence"}, {"(subseq (1 . 2) 0)", "! TYPE-ERROR (1 . 2) sequence"}, {"(subseq (1) 0 1180591620717411303424)", "! TYPE-ERROR 1180591620717411303424 integer"}, {"(subseq (1) -1)", "! TYPE-ERROR -1 unsigned-byte"},
 		{"(string \"a\")", "\"a\""}, {"(string abc)", "\"ABC\""}, {"(string #\\a)", "\"a\""}, {"(string nil)", "\"NIL\""}, {"(string 5)", "! TYPE-ERROR 5 string"}, {"(string (a))", "! TYPE-ERROR (a) string"},
 	})
@@ -29,7 +29,7 @@ func TestCharactersAndStrings(t *testing.T) {
 		t.Error("STRING of a string is this, and SUBSEQ is a new one")
 	}
 	set(t, w, "LONG", raw(t, w, heap.KindString, strings.Repeat("x", 131072)))
-	check(t, w, []row{{"(concat $long \"x\")", "limit 11"}, {"(length $long)", "131072"}})
+	check(t, w, []row{{"(concat $long \"x\")", "limit 11"}, {"(length $long)", "131072"}, {"(progn)", "! UNDEFINED-FUNCTION progn"}})
 }
 
 func TestTypes(t *testing.T) {
@@ -67,6 +67,13 @@ func TestPrinting(t *testing.T) {
 	})
 	if want := "\"a\\\"b\"\na\"b\n(car x) x y#\\aa%::box%::object"; w.Output() != want {
 		t.Errorf("the output is %q; want %q", w.Output(), want)
+	}
+	long := raw(t, w, heap.KindString, strings.Repeat("x", 100001))
+	for _, name := range []string{"PRIN1", "PRINC", "PRINT", "PRIN1-TO-STRING", "PRINC-TO-STRING"} {
+		a := w.Call(lisp(t, w, name), []heap.Word{long})
+		if a.Kind != lib.AnswerFault || a.Fault.Type != "SIMPLE-ERROR" || len(a.Fault.Data) != 1 || a.Fault.Data[0] != long {
+			t.Errorf("%s of a long string: %d, %s", name, a.Kind, a.Fault.Type)
+		}
 	}
 	object := call(t, w, "(prin1 $bad)").Values
 	if bad, _ := w.Value(symbol(t, w, "COMMON-LISP-USER", "BAD")); len(object) != 1 || object[0] != bad {

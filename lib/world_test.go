@@ -351,14 +351,17 @@ func TestRegister(t *testing.T) {
 	w.Symbols().Intern("COMMON-LISP-USER", "CLASH")
 	w.Symbols().Intern("COMMON-LISP-USER", "SHADOW")
 	w.Symbols().Shadow("COMMON-LISP-USER", "SHADOW")
+	w.Symbols().Intern("COMMON-LISP", "INNER")
+	w.Symbols().Intern("COMMON-LISP-USER", "INNER")
+	w.Symbols().Intern("COMMON-LISP", "SOLE")
 	for _, c := range []struct {
 		name        string
 		least, most int
 		f           func([]heap.Word) lib.Answer
 		e           api.Errno
 	}{
-		{"CAR", 0, 0, answer, api.ErrTwice}, {"CAR", -1, 0, nil, api.ErrTwice}, {"F", -1, 0, answer, api.ErrArg}, {"F", 0, 0, nil, api.ErrArg}, {long, 0, 0, nil, api.ErrArg}, {long, 0, 0, answer, api.ErrSize}, {"CLASH", 0, 0, answer, symbols.ErrClash},
-		{"F", 1, 2, answer, api.OK}, {"F", 1, 2, answer, api.ErrTwice}, {"G", 0, -1, answer, api.OK}, {"INTEGER", 2, 1, answer, api.OK}, {"SHADOW", 1, 1, answer, api.OK}, {"PANIC", 0, 0, func([]heap.Word) lib.Answer { panic("lost") }, api.OK}, {"FAULT", 0, 0, func([]heap.Word) lib.Answer {
+		{"CAR", 0, 0, answer, api.ErrTwice}, {"CAR", -1, 0, nil, api.ErrTwice}, {"F", -1, 0, answer, api.ErrArg}, {"F", 0, 0, nil, api.ErrArg}, {long, 0, 0, nil, api.ErrArg}, {long, 0, 0, answer, api.ErrSize}, {"CLASH", 0, 0, answer, symbols.ErrClash}, {"INNER", 0, 0, answer, symbols.ErrClash},
+		{"F", 1, 2, answer, api.OK}, {"F", 1, 2, answer, api.ErrTwice}, {"SOLE", 0, 0, answer, api.OK}, {"G", 0, -1, answer, api.OK}, {"INTEGER", 2, 1, answer, api.OK}, {"SHADOW", 1, 1, answer, api.OK}, {"PANIC", 0, 0, func([]heap.Word) lib.Answer { panic("lost") }, api.OK}, {"FAULT", 0, 0, func([]heap.Word) lib.Answer {
 			return lib.Answer{Kind: lib.AnswerFault, Fault: lib.Fault{Type: "MY-ERROR", Data: []heap.Word{fix(5)}}}
 		}, api.OK}, {"AGAIN", 1, 1, func(l []heap.Word) lib.Answer { return w.Call(l[0], nil) }, api.OK},
 	} {
@@ -373,7 +376,7 @@ func TestRegister(t *testing.T) {
 	if _, status, _ := w.Symbols().Find("COMMON-LISP", "G"); status != symbols.External {
 		t.Errorf("a registered function's symbol has the status %d", status)
 	}
-	for i, name := range []string{"F", "G", "INTEGER"} {
+	for i, name := range []string{"F", "SOLE", "G", "INTEGER"} {
 		f, _ := w.Function(lisp(t, w, name))
 		if index, _ := w.Heap().Get(f, 0); index != fix(int64(len(lib.Names())+i)) {
 			t.Errorf("the index of %s is %v", name, index)
@@ -413,7 +416,7 @@ func TestCall(t *testing.T) {
 		want string
 	}{
 		{heap.Word(7), nil, "limit 170"}, {gone, nil, "limit 170"}, {car, []heap.Word{7}, "limit 170"}, {car, []heap.Word{fix(1), fix(2), gone}, "limit 170"}, {fix(5), []heap.Word{7}, "limit 170"},
-		{fix(5), nil, "! TYPE-ERROR 5 function"}, {heap.Unbound, nil, "! TYPE-ERROR %::unbound function"}, {making(t, w, heap.KindBuiltin, fix(-1)), nil, "! TYPE-ERROR %::builtin function"}, {making(t, w, heap.KindBuiltin, fix(100000)), nil, "! TYPE-ERROR %::builtin function"}, {making(t, w, heap.KindBuiltin), nil, "! TYPE-ERROR %::builtin function"}, {raw(t, w, heap.KindBuiltin, "a"), nil, "! TYPE-ERROR %::builtin function"}, {making(t, w, heap.KindBuiltin, fix(1)), []heap.Word{heap.Nil}, "nil"},
+		{fix(5), nil, "! TYPE-ERROR 5 function"}, {heap.Unbound, nil, "! TYPE-ERROR %::unbound function"}, {making(t, w, heap.KindBuiltin, fix(-1)), nil, "! TYPE-ERROR %::builtin function"}, {making(t, w, heap.KindBuiltin, fix(100000)), nil, "! TYPE-ERROR %::builtin function"}, {making(t, w, heap.KindBuiltin), nil, "! TYPE-ERROR %::builtin function"}, {making(t, w, heap.KindBuiltin, heap.Nil), []heap.Word{fix(1), fix(2)}, "! TYPE-ERROR %::builtin function"}, {making(t, w, heap.KindBuiltin, fix(int64(len(lib.Names())))), nil, "! TYPE-ERROR %::builtin function"}, {raw(t, w, heap.KindBuiltin, "a"), nil, "! TYPE-ERROR %::builtin function"}, {making(t, w, heap.KindBuiltin, fix(1)), []heap.Word{heap.Nil}, "nil"},
 		{making(t, w, heap.KindClosure), []heap.Word{heap.Unbound}, "> %::closure %::unbound"}, {making(t, w, heap.KindCode, fix(1)), nil, "> %::closure"},
 		{car, []heap.Word{heap.Unbound}, "! TYPE-ERROR %::unbound list"},
 	} {
