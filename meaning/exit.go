@@ -42,7 +42,7 @@ func (r *run) leave(x *exit) task {
 		t.next = x.segment + 1
 		return begin(t.node.kids[x.segment], t.env)
 	}
-	r.pop()
+	// A block and a catch hand on the values.
 	return give(x.values...)
 }
 
@@ -104,9 +104,12 @@ func (r *run) throw(tag heap.Word, values []heap.Word) task {
 
 // eql reports whether two words are the same, or equal numbers.
 func (r *run) eql(a, b heap.Word) bool {
+	if a == b {
+		return true
+	}
 	kind := r.heap.Kind(a)
-	if a == b || kind < heap.KindInt || kind > heap.KindComplex || kind != r.heap.Kind(b) {
-		return a == b
+	if kind < heap.KindInt || kind > heap.KindComplex || kind != r.heap.Kind(b) {
+		return false
 	}
 	f, e := r.w.Show(a)
 	g, e2 := r.w.Show(b)

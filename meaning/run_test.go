@@ -117,6 +117,8 @@ func TestLimits(t *testing.T) {
 		{"(labels ((f () (list (f)))) (unwind-protect (f) (note 1)))", "limit 12"},
 		{"(labels ((f (n) (if (= n 0) 'done (f (- n 1))))) (f 5000))", "done"},
 		{"(labels ((f (n) (if (= n 0) nil (list (f (- n 1)))))) (progn (f 600) 'done))", "done"},
+		{"(labels ((f (n) (if (= n 0) nil (list (f (- n 1)))))) (progn (f 1997) 'done))", "done"},
+		{"(labels ((f (n) (if (= n 0) nil (list (f (- n 1)))))) (progn (f 1998) 'done))", "limit 12"},
 		{"(labels ((f (n) (if (= n 0) (return-from f 'done) (f (- n 1))))) (f 5000))", "limit 12"},
 		{"(let ((l nil)) (unwind-protect (tagbody a (setq l (list l l l l l l l l)) (go a)) (note 1)))", "limit 11"},
 		{"(let ((l nil)) (tagbody a (setq l (make-array 16000)) (go a)))", "limit 11"},
@@ -232,6 +234,16 @@ func TestClosures(t *testing.T) {
 	if got := run(t, w, "(let ((x 1)) (let ((f #'(lambda () x)) (g #'(lambda (y) (setq x y)))) (funcall g 5) (funcall f)))"); got != "5" {
 		t.Errorf("two closures of one scope: %s", got)
 	}
+	fresh := newWorld(t)
+	only := value(t, fresh, "#'(lambda ())")
+	if i, _ := fresh.Heap().Get(only, 0); i.IsRef() {
+		t.Error("an index is no number")
+	} else if n, _ := i.Fixnum(); true {
+		fresh.Heap().Set(only, 0, fix(int(n)+1))
+	}
+	if _, e := meaning.Closure(fresh, only); e != api.ErrType {
+		t.Errorf("Closure of the next index: %v", e)
+	}
 	fake, _ := h.New(heap.KindClosure, 2)
 	far, _ := h.New(heap.KindClosure, 2)
 	h.Set(far, 0, fix(100000))
@@ -264,9 +276,63 @@ func TestClosures(t *testing.T) {
 	}
 }
 
+// Blocks and tagbodies have cells in an environment, too.
+func TestExitCells(t *testing.T) {
+	w := newWorld(t)
+	h := w.Heap()
+	x := value(t, w, "(let ((x 1)) (block a (tagbody b (return-from a #'(lambda () (if x (go b) (return-from a 1)))))))")
+	l, _ := h.Get(x, 1)
+	entries := 0
+	for ; h.Kind(l) == heap.KindCons; entries++ {
+		entry, _ := h.Get(l, 0)
+		key, _ := h.Get(entry, 0)
+		cell, _ := h.Get(entry, 1)
+		if _, ok := key.Fixnum(); !ok || h.Kind(cell) != heap.KindBox {
+			t.Errorf("an entry with %v and %v", key, cell)
+		}
+		l, _ = h.Get(l, 1)
+	}
+	if entries != 3 {
+		t.Errorf("%d entries", entries)
+	}
+}
+
+// What becomes of a tree behind a run changes nothing of its closures.
+func TestTreeMemory(t *testing.T) {
+	w := newWorld(t)
+	c := tree(t, "(lambda 0 {1 1 -1 -} (let [2] (var 1) (bind ['SP] (const #5) (labels [3] (lambda 0 (special 'SP)) (callglobal 'LIST (var 2) (call (var 3)) (const 10::(#7 11::(#8) 'NIL)))))))")
+	end, _ := meaning.Run(w, c, 100)
+	want, _ := core.Show(c)
+	let := &c.Kids[0]
+	bind := &let.Kids[1]
+	labels := &bind.Kids[1]
+	list := &labels.Kids[1]
+	c.Pars[0].Var, let.Vars[0], labels.Vars[0] = 70, 71, 72
+	bind.Syms[0].Text = "SQ"
+	list.Data.Text = "VECTOR"
+	list.Kids[2].Data.Kids[0].Text = "9"
+	list.Kids[2].Data.Kids[1].Kids[0].Text = "9"
+	labels.Kids[0].Kids[0] = api.Core{Op: api.CoreProgn}
+	if got, _ := meaning.Apply(w, end.Values[0], []heap.Word{fix(1)}, 100); told(w, got) != "(1 5 (7 #(8)))" {
+		t.Errorf("the closure is %s", told(w, got))
+	}
+	again, _ := meaning.Closure(w, end.Values[0])
+	if text, _ := core.Show(again); text != want {
+		t.Errorf("Closure is %s; want %s", text, want)
+	}
+	again.Kids[0].Kids[1].Kids[1].Kids[1].Kids[2].Data.Kids[1].Kids[0].Text = "9"
+	again.Kids[0].Kids[1].Syms[0].Text = "SQ"
+	again.Kids[0].Vars[0] = 70
+	last, _ := meaning.Closure(w, end.Values[0])
+	if text, _ := core.Show(last); text != want {
+		t.Errorf("Closure is %s; want %s", text, want)
+	}
+}
+
 func TestApply(t *testing.T) {
 	w := noting(t)
 	f := value(t, w, "#'(lambda (x &optional (y (note 5))) (values x y))")
+	letter, _ := heap.Char('a')
 	for _, c := range []struct {
 		f     heap.Word
 		args  []heap.Word
@@ -274,6 +340,7 @@ func TestApply(t *testing.T) {
 		steps int
 	}{
 		{f, []heap.Word{fix(1)}, "1 5", 8}, {f, []heap.Word{fix(1), fix(2)}, "1 2", 5}, {f, nil, "! PROGRAM-ERROR %::closure", 1}, {symbol(t, w, "LIST"), []heap.Word{fix(1), fix(2)}, "(1 2)", 1}, {symbol(t, w, "NOPE"), nil, "! UNDEFINED-FUNCTION nope", 1}, {fix(5), nil, "! TYPE-ERROR 5 function", 1}, {symbol(t, w, "CAR"), []heap.Word{fix(1)}, "! TYPE-ERROR 1 list", 1}, {symbol(t, w, "VALUES"), nil, "", 1}, {symbol(t, w, "FUNCALL"), []heap.Word{f, fix(1), fix(2)}, "1 2", 6},
+		{symbol(t, w, "LIST"), []heap.Word{heap.Nil, letter, heap.Unbound}, "(nil #\\a %::unbound)", 1}, {heap.Nil, nil, "! UNDEFINED-FUNCTION nil", 1}, {letter, nil, "! TYPE-ERROR #\\a function", 1},
 		{heap.Word(7), nil, "bad 170", 0}, {f, []heap.Word{fix(1), 7}, "bad 170", 0}, {heap.Word(8*60000 + 3), []heap.Word{7}, "bad 170", 0},
 	} {
 		end, steps := meaning.Apply(w, c.f, c.args, 1000)
