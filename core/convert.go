@@ -110,17 +110,14 @@ func (c *converter) symbol(f api.Form, s *scope) api.Core {
 	if n, ok := s.variable(f); ok {
 		return local(n)
 	}
-	need(f.Home != "")
-	return api.Core{Op: api.CoreSpecial, Data: copiedForm(f)}
+	return c.global(api.CoreSpecial, f, nil, s)
 }
 
 // list converts a special form or a call.
 func (c *converter) list(l []api.Form, s *scope) api.Core {
 	head, rest := l[0], l[1:]
 	if head.Kind == api.FormCons {
-		parts := elements(head)
-		need(forms.Is(parts[0], lisp, "LAMBDA"))
-		called := c.lambda(c.shapeOf(parts[1:]), s)
+		called := c.lambdaForm(head, s)
 		return node(api.CoreCall, append([]api.Core{called}, c.forms(rest, s)...)...)
 	}
 	if head.Home == lisp && head.Kind == api.FormSymbol {
@@ -132,7 +129,7 @@ func (c *converter) list(l []api.Form, s *scope) api.Core {
 	if n, ok := s.numbered(function, head); ok {
 		return node(api.CoreCall, append([]api.Core{local(n)}, c.forms(rest, s)...)...)
 	}
-	return c.global(api.CoreCallGlobal, head, c.forms, rest, s)
+	return c.global(api.CoreCallGlobal, head, rest, s)
 }
 
 // needFunctionName refuses what cannot be the name of a function.
@@ -140,10 +137,10 @@ func needFunctionName(f api.Form) {
 	need(f.Kind == api.FormSymbol && !isConstant(f))
 }
 
-// global makes a node with the name of a global function.
-func (c *converter) global(op int, f api.Form, convert func([]api.Form, *scope) []api.Core, l []api.Form, s *scope) api.Core {
+// global makes a node with the name of a special variable or a global function.
+func (c *converter) global(op int, f api.Form, kids []api.Form, s *scope) api.Core {
 	need(f.Home != "")
-	return api.Core{Op: op, Data: copiedForm(f), Kids: convert(l, s)}
+	return api.Core{Op: op, Data: copiedForm(f), Kids: c.forms(kids, s)}
 }
 
 func (c *converter) quote(l []api.Form, _ *scope) api.Core {
@@ -153,15 +150,13 @@ func (c *converter) quote(l []api.Form, _ *scope) api.Core {
 func (c *converter) function(l []api.Form, s *scope) api.Core {
 	f := counted(l, 1, 1)[0]
 	if f.Kind == api.FormCons {
-		parts := elements(f)
-		need(forms.Is(parts[0], lisp, "LAMBDA"))
-		return c.lambda(c.shapeOf(parts[1:]), s)
+		return c.lambdaForm(f, s)
 	}
 	needFunctionName(f)
 	if n, ok := s.numbered(function, f); ok {
 		return local(n)
 	}
-	return c.global(api.CoreFunction, f, c.forms, nil, s)
+	return c.global(api.CoreFunction, f, nil, s)
 }
 
 func (c *converter) branch(l []api.Form, s *scope) api.Core {
@@ -211,7 +206,7 @@ func (c *converter) set(variable, value api.Form, s *scope) api.Core {
 	if n, ok := s.variable(variable); ok {
 		return api.Core{Op: api.CoreSet, N: n, Kids: []api.Core{c.form(value, s)}}
 	}
-	return c.global(api.CoreSetSpecial, variable, c.forms, []api.Form{value}, s)
+	return c.global(api.CoreSetSpecial, variable, []api.Form{value}, s)
 }
 
 // let converts a LET: all inits stand outside of the scope.
@@ -289,6 +284,13 @@ func bound(syms []api.Form, values []api.Core, inner api.Core) api.Core {
 	return api.Core{Op: api.CoreBind, Syms: syms, Kids: append(values, inner)}
 }
 
+// lambdaForm converts a list that begins with LAMBDA.
+func (c *converter) lambdaForm(f api.Form, s *scope) api.Core {
+	parts := elements(f)
+	need(forms.Is(parts[0], lisp, "LAMBDA"))
+	return c.lambda(c.shapeOf(parts[1:]), s)
+}
+
 // lambda converts a function. All its parameters are numbered ahead of their inits.
 func (c *converter) lambda(f shape, s *scope) api.Core {
 	made := api.Core{Op: api.CoreLambda}
@@ -352,7 +354,7 @@ func (c *converter) flet(l []api.Form, s *scope) api.Core {
 	for _, f := range functions {
 		made.Kids = append(made.Kids, c.lambda(f, s))
 	}
-	s = c.name(&made, functions, s)
+	s = c.bindFunctions(&made, functions, s)
 	made.Kids = append(made.Kids, c.body(inner, s))
 	return made
 }
@@ -361,7 +363,7 @@ func (c *converter) labels(l []api.Form, s *scope) api.Core {
 	functions := c.shapes(counted(l, 1, -1)[0])
 	inner := bodyOf(l[1:])
 	made := node(api.CoreLabels)
-	s = c.name(&made, functions, s)
+	s = c.bindFunctions(&made, functions, s)
 	for _, f := range functions {
 		made.Kids = append(made.Kids, c.lambda(f, s))
 	}
@@ -369,8 +371,8 @@ func (c *converter) labels(l []api.Form, s *scope) api.Core {
 	return made
 }
 
-// name gives variables to local functions, and returns the scope in which they have them.
-func (c *converter) name(made *api.Core, functions []shape, s *scope) *scope {
+// bindFunctions gives variables to local functions, and returns the scope in which they have them.
+func (c *converter) bindFunctions(made *api.Core, functions []shape, s *scope) *scope {
 	for _, f := range functions {
 		n := c.fresh(variables)
 		made.Vars = append(made.Vars, n)

@@ -16,9 +16,9 @@ type body func(args []heap.Word) []heap.Word
 // A builtin is a builtin function. One that was registered has its own answer, all others a body, but for those that hand arguments on to another function.
 type builtin struct {
 	signature
+	counts     arity
 	body       body
 	registered func(args []heap.Word) Answer
-	arities    arity // of one that was registered
 }
 
 // A limit is the panic of a builtin function for which there is no room.
@@ -88,17 +88,18 @@ func (w *World) call(function heap.Word, args []heap.Word) Answer {
 			return Answer{Kind: AnswerNext, Function: function, Values: args}
 		}
 		b := w.builtins[w.index(function)]
+		if !b.counts.takes(len(args)) {
+			w.fail("PROGRAM-ERROR", w.lisp(b.name))
+		}
 		if b.registered != nil {
-			if !b.arities.takes(len(args)) {
-				w.fail("PROGRAM-ERROR", w.lisp(b.name))
-			}
 			return b.registered(args)
 		}
-		w.check(b.signature, args)
+		w.checkTypes(b.signature, args)
 		if b.body != nil {
 			return Answer{Kind: AnswerValues, Values: b.body(args)}
 		}
-		function, args = args[0], args[1:]
+		function = w.functionOf(args[0])
+		args = args[1:]
 		if b.name == apply {
 			args = w.spread(args)
 			left -= len(args)
@@ -141,11 +142,8 @@ func (w *World) spread(args []heap.Word) []heap.Word {
 	return append(slices.Clone(args[:len(args)-1]), w.elements(last)...)
 }
 
-// check looks at the number of arguments, and at their types.
-func (w *World) check(s signature, args []heap.Word) {
-	if !s.arity().takes(len(args)) {
-		w.fail("PROGRAM-ERROR", w.lisp(s.name))
-	}
+// checkTypes looks at the types of arguments.
+func (w *World) checkTypes(s signature, args []heap.Word) {
 	typed := len(args)
 	if s.rest == 'x' && s.last == 0 {
 		typed = min(typed, len(s.required))
@@ -303,6 +301,6 @@ func (w *World) Register(name string, least, most int, f func(args []heap.Word) 
 	}
 	n, _, _ := w.table.Find(lisp, name)
 	w.table.Export(lisp, n)
-	w.builtins = append(w.builtins, builtin{signature: signature{name: name}, registered: f, arities: arity{least, most}})
+	w.builtins = append(w.builtins, builtin{signature: signature{name: name}, counts: arity{least, most}, registered: f})
 	return w.setBuiltin(symbol, len(w.builtins)-1)
 }
