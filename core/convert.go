@@ -291,7 +291,7 @@ func (c *converter) lambdaForm(f api.Form, s *scope) api.Core {
 	return c.lambda(c.shapeOf(parts[1:]), s)
 }
 
-// lambda converts a function. All its parameters are numbered ahead of their inits.
+// lambda converts a function. Its parameters are numbered one by one, each behind its init.
 func (c *converter) lambda(f shape, s *scope) api.Core {
 	made := api.Core{Op: api.CoreLambda}
 	if f.allow {
@@ -299,25 +299,24 @@ func (c *converter) lambda(f shape, s *scope) api.Core {
 	}
 	var syms []api.Form
 	var values []api.Core
-	for _, item := range f.items {
-		p := api.Param{Kind: item.Kind, Var: c.fresh(variables), Given: none, Key: copiedForm(item.Key)}
-		if item.Given.Kind != 0 {
-			p.Given = c.fresh(variables)
+	bind := func(v api.Form) int {
+		n := c.fresh(variables)
+		s = s.with(lexical, v, n)
+		if f.isSpecials[nameOf(v)] {
+			syms, values = append(syms, copiedForm(v)), append(values, local(n))
 		}
-		made.Pars = append(made.Pars, p)
+		return n
 	}
-	for i, item := range f.items {
-		p := made.Pars[i]
+	for _, item := range f.items {
+		p := api.Param{Kind: item.Kind, Given: none, Key: copiedForm(item.Key)}
 		if hasInit(p) {
 			made.Kids = append(made.Kids, c.form(item.Init, s))
 		}
-		for k, v := range variablesOf(item) {
-			n := []int{p.Var, p.Given}[k]
-			s = s.with(lexical, v, n)
-			if f.isSpecials[nameOf(v)] {
-				syms, values = append(syms, copiedForm(v)), append(values, local(n))
-			}
+		p.Var = bind(item.Var)
+		if item.Given.Kind != 0 {
+			p.Given = bind(item.Given)
 		}
+		made.Pars = append(made.Pars, p)
 	}
 	inner := c.bindInOrder(f.aux, s.withSpecials(syms), func(s *scope) api.Core { return c.functionBody(f, s) })
 	made.Kids = append(made.Kids, bound(syms, values, inner))
