@@ -163,9 +163,6 @@ func statusName(status int) string {
 
 // canExport returns ErrClash if a symbol of COMMON-LISP could not be exported.
 func (w *World) canExport(s wanted) api.Errno {
-	if !s.isNew && s.status == symbols.External {
-		return api.OK
-	}
 	pack, _ := w.table.Package(lisp)
 	for _, name := range pack.UsedBy {
 		n, status, _ := w.table.Find(name, s.name)

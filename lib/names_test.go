@@ -89,6 +89,9 @@ func TestFullTable(t *testing.T) {
 		t.Errorf("the counter has become %d", w.Parts().Counter)
 	}
 	w = newWorld(t)
+	fill(t, w, 0)
+	check(t, w, []row{{"(find-symbol \"CAR\")", "! PACKAGE-ERROR \"COMMON-LISP-USER\""}, {"(intern \"CAR\")", "! PACKAGE-ERROR \"COMMON-LISP-USER\""}, {"(find-symbol \"NEW\")", "nil nil"}})
+	w = newWorld(t)
 	fill(t, w, 1)
 	check(t, w, []row{{"(intern \"CAR\")", "car :inherited"}, {"(intern \"CDR\")", "cdr :inherited"}, {"(intern \"CAR\" \"CL\")", "! PACKAGE-ERROR \"CL\""}})
 }

@@ -2,7 +2,6 @@ package lib
 
 import (
 	"strconv"
-	"strings"
 
 	"commonform/api"
 	"commonform/heap"
@@ -246,14 +245,8 @@ func (w *World) onIntegers() map[string]body {
 
 // within returns the value of an integer, or the nearest one from -most to most.
 func within(f api.Form, most int) int {
-	n, err := strconv.ParseInt(f.Text, 10, 64)
-	if err != nil {
-		// Only what has too many digits is no such number.
-		n = int64(most)
-		if strings.HasPrefix(f.Text, "-") {
-			n = -n
-		}
-	}
+	// Of what has too many digits this is the nearest number that there is.
+	n, _ := strconv.ParseInt(f.Text, 10, 64)
 	return int(max(min(n, int64(most)), int64(-most)))
 }
 

@@ -63,7 +63,7 @@ func TestWrongNumbers(t *testing.T) {
 	loop, _ := w.Value(symbol(t, w, "COMMON-LISP-USER", "LOOP"))
 	w.Heap().Set(loop, 1, loop)
 	for _, c := range []struct{ call, want string }{
-		{"(+ $inf)", "! TYPE-ERROR"}, {"(+ $bad)", "! TYPE-ERROR"}, {"(+ $fields)", "! TYPE-ERROR"}, {"(+ $loop)", "! TYPE-ERROR"}, {"(max 1 $bad)", "! TYPE-ERROR"}, {"(numberp $fields)", "nil"}, {"(numberp $loop)", "nil"}, {"(ash $bad 1)", "! TYPE-ERROR"}, {"(ash 1 $empty)", ""}, {"(nth $empty nil)", ""}, {"(code-char $empty)", ""}, {"(ash 1 $bad)", ""}, {"(expt 2 $bad)", ""}, {"(nth $bad nil)", ""}, {"(gcd $bad)", "! TYPE-ERROR"},
+		{"(+ $inf)", "! TYPE-ERROR ? number"}, {"(+ $bad)", "! TYPE-ERROR error 4 number"}, {"(+ $fields)", "! TYPE-ERROR"}, {"(+ $loop)", "! TYPE-ERROR"}, {"(max 1 $bad)", "! TYPE-ERROR error 4 number"}, {"(numberp $fields)", "nil"}, {"(numberp $loop)", "nil"}, {"(ash $bad 1)", "! TYPE-ERROR error 4 number"}, {"(ash 1 $empty)", ""}, {"(nth $empty nil)", ""}, {"(code-char $empty)", ""}, {"(ash 1 $bad)", ""}, {"(expt 2 $bad)", ""}, {"(nth $bad nil)", ""}, {"(gcd $bad)", "! TYPE-ERROR error 4 number"},
 	} {
 		got := told(w, call(t, w, c.call))
 		if len(got) < len(c.want) || got[:len(c.want)] != c.want {

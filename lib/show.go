@@ -24,7 +24,6 @@ type shower struct {
 	w      *World
 	met    map[heap.Word]int
 	labels map[heap.Word]string
-	nodes  int
 }
 
 // Show returns the form of an object.
@@ -37,8 +36,8 @@ func (w *World) Show(x heap.Word) (api.Form, api.Errno) {
 	}
 	s := &shower{w: w, met: map[heap.Word]int{}, labels: map[heap.Word]string{}}
 	s.meet(x)
-	f, ok := s.form(x, 1)
-	if !ok || forms.Check(f) != api.OK {
+	f := s.form(x)
+	if forms.Check(f) != api.OK {
 		return api.Form{}, api.ErrSize
 	}
 	return f, api.OK
@@ -78,67 +77,57 @@ func (w *World) parts(x heap.Word) []heap.Word {
 	return nil
 }
 
-// form makes the form of a word at a depth; false if it is sure to become too large or too deep.
-func (s *shower) form(x heap.Word, depth int) (api.Form, bool) {
-	s.nodes++
-	if s.nodes > api.MaxForm || depth > api.MaxDepth {
-		return api.Form{}, false
-	}
+// form makes the form of a word.
+func (s *shower) form(x heap.Word) api.Form {
 	if s.met[x] < 2 {
-		return s.plain(x, depth)
+		return s.plain(x)
 	}
 	if label, ok := s.labels[x]; ok {
-		return api.Form{Kind: api.FormRef, Text: label}, true
+		return api.Form{Kind: api.FormRef, Text: label}
 	}
 	label := strconv.Itoa(len(s.labels))
 	s.labels[x] = label
-	f, ok := s.plain(x, depth+1)
-	return api.Form{Kind: api.FormLabel, Text: label, Kids: []api.Form{f}}, ok
+	return api.Form{Kind: api.FormLabel, Text: label, Kids: []api.Form{s.plain(x)}}
 }
 
 // plain makes the form of a word without its label.
-func (s *shower) plain(x heap.Word, depth int) (api.Form, bool) {
+func (s *shower) plain(x heap.Word) api.Form {
 	if c, ok := x.Character(); ok {
-		return api.Form{Kind: api.FormChar, Text: string(c)}, true
+		return api.Form{Kind: api.FormChar, Text: string(c)}
 	}
 	if f, ok := s.w.number(x); ok {
-		return f, true
+		return f
 	}
 	switch {
 	case s.w.isCons(x):
-		return s.list(x, depth)
+		return s.list(x)
 	case s.w.isString(x) || s.w.isBits(x):
-		return api.Form{Kind: s.w.heap.Kind(x), Text: s.w.text(x)}, true
+		return api.Form{Kind: s.w.heap.Kind(x), Text: s.w.text(x)}
 	case s.w.isArray(x):
-		return s.array(x, depth)
+		return s.array(x)
 	}
 	home, name, e := s.w.Name(x)
 	if e == api.OK {
-		return forms.Symbol(home, name), true
+		return forms.Symbol(home, name)
 	}
-	return forms.Symbol(strange, strangeName(x, s.w.heap.Kind(x))), true
+	return forms.Symbol(strange, strangeName(x, s.w.heap.Kind(x)))
 }
 
 // list makes the form of a cons, and of those behind it that are met only there.
-func (s *shower) list(x heap.Word, depth int) (api.Form, bool) {
+func (s *shower) list(x heap.Word) api.Form {
 	f := api.Form{Kind: api.FormCons}
 	for {
-		car, ok := s.form(s.w.get(x, 0), depth+1)
-		if !ok {
-			return api.Form{}, false
-		}
-		f.Kids = append(f.Kids, car)
+		f.Kids = append(f.Kids, s.form(s.w.get(x, 0)))
 		x = s.w.get(x, 1)
 		if !s.w.isCons(x) || s.met[x] > 1 {
 			break
 		}
 	}
-	tail, ok := s.form(x, depth+1)
-	f.Kids = append(f.Kids, tail)
-	return f, ok
+	f.Kids = append(f.Kids, s.form(x))
+	return f
 }
 
-func (s *shower) array(x heap.Word, depth int) (api.Form, bool) {
+func (s *shower) array(x heap.Word) api.Form {
 	f := api.Form{Kind: s.w.heap.Kind(x)}
 	if f.Kind == api.FormArray {
 		dims, _, _ := s.w.arrayOf(x)
@@ -149,13 +138,9 @@ func (s *shower) array(x heap.Word, depth int) (api.Form, bool) {
 		f.Text = strings.Join(texts, " ")
 	}
 	for _, part := range s.w.parts(x) {
-		kid, ok := s.form(part, depth+1)
-		if !ok {
-			return api.Form{}, false
-		}
-		f.Kids = append(f.Kids, kid)
+		f.Kids = append(f.Kids, s.form(part))
 	}
-	return f, true
+	return f
 }
 
 // strangeName returns the name of what has no form.

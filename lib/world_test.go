@@ -354,13 +354,15 @@ func TestRegister(t *testing.T) {
 	w.Symbols().Intern("COMMON-LISP", "INNER")
 	w.Symbols().Intern("COMMON-LISP-USER", "INNER")
 	w.Symbols().Intern("COMMON-LISP", "SOLE")
+	w.Symbols().Make("Q", nil, []string{"COMMON-LISP"})
+	w.Symbols().Intern("Q", "OTHER")
 	for _, c := range []struct {
 		name        string
 		least, most int
 		f           func([]heap.Word) lib.Answer
 		e           api.Errno
 	}{
-		{"CAR", 0, 0, answer, api.ErrTwice}, {"CAR", -1, 0, nil, api.ErrTwice}, {"F", -1, 0, answer, api.ErrArg}, {"F", 0, 0, nil, api.ErrArg}, {long, 0, 0, nil, api.ErrArg}, {long, 0, 0, answer, api.ErrSize}, {"CLASH", 0, 0, answer, symbols.ErrClash}, {"INNER", 0, 0, answer, symbols.ErrClash},
+		{"CAR", 0, 0, answer, api.ErrTwice}, {"CAR", -1, 0, nil, api.ErrTwice}, {"F", -1, 0, answer, api.ErrArg}, {"F", 0, 0, nil, api.ErrArg}, {long, 0, 0, nil, api.ErrArg}, {long, 0, 0, answer, api.ErrSize}, {"CLASH", 0, 0, answer, symbols.ErrClash}, {"INNER", 0, 0, answer, symbols.ErrClash}, {"OTHER", 0, 0, answer, symbols.ErrClash},
 		{"F", 1, 2, answer, api.OK}, {"F", 1, 2, answer, api.ErrTwice}, {"SOLE", 0, 0, answer, api.OK}, {"G", 0, -1, answer, api.OK}, {"INTEGER", 2, 1, answer, api.OK}, {"SHADOW", 1, 1, answer, api.OK}, {"PANIC", 0, 0, func([]heap.Word) lib.Answer { panic("lost") }, api.OK}, {"FAULT", 0, 0, func([]heap.Word) lib.Answer {
 			return lib.Answer{Kind: lib.AnswerFault, Fault: lib.Fault{Type: "MY-ERROR", Data: []heap.Word{fix(5)}}}
 		}, api.OK}, {"AGAIN", 1, 1, func(l []heap.Word) lib.Answer { return w.Call(l[0], nil) }, api.OK},

@@ -29,8 +29,8 @@ type goal struct{ key, segment int }
 func newNode(c api.Core) *node {
 	goals := map[int]goal{}
 	left := returns(c, map[int]bool{})
-	var make func(c api.Core) *node
-	make = func(c api.Core) *node {
+	var convert func(c api.Core) *node
+	convert = func(c api.Core) *node {
 		n := &node{tree: c, key: nowhere, index: -1}
 		switch c.Op {
 		case api.CoreBlock, api.CoreReturn:
@@ -48,11 +48,11 @@ func newNode(c api.Core) *node {
 			n.key, n.segment = goals[c.N].key, goals[c.N].segment
 		}
 		for _, k := range c.Kids {
-			n.kids = append(n.kids, make(k))
+			n.kids = append(n.kids, convert(k))
 		}
 		return n
 	}
-	return make(copied(c))
+	return convert(copied(c))
 }
 
 // returns adds the blocks to which an exit of a tree leads.
