@@ -10,14 +10,14 @@ import (
 const (
 	blockKeys   = 10000
 	tagbodyKeys = 20000
-	nowhere     = -1 // of a block or a tagbody to which no exit leads
+	nowhere     = -1 // the key of a tagbody without tags, to which no exit leads
 )
 
 // A node is a node of a core tree that is run.
 type node struct {
 	tree    api.Core
 	kids    []*node
-	key     int // of a block or a tagbody to which exits lead, or of that to which an exit leads
+	key     int // of a block or a tagbody, or of that to which an exit leads
 	segment int // of the tagbody, to which a go leads
 	index   int // of a lambda in the state; -1 as long as it has no closure
 }
@@ -28,15 +28,12 @@ type goal struct{ key, segment int }
 // newNode returns the node of a right tree, which may be changed later.
 func newNode(c api.Core) *node {
 	goals := map[int]goal{}
-	left := returns(c, map[int]bool{})
 	var convert func(c api.Core) *node
 	convert = func(c api.Core) *node {
 		n := &node{tree: c, key: nowhere, index: -1}
 		switch c.Op {
 		case api.CoreBlock, api.CoreReturn:
-			if left[c.N] {
-				n.key = blockKeys + c.N
-			}
+			n.key = blockKeys + c.N
 		case api.CoreTagbody:
 			if len(c.Vars) > 0 {
 				n.key = tagbodyKeys + c.Vars[0]
@@ -53,17 +50,6 @@ func newNode(c api.Core) *node {
 		return n
 	}
 	return convert(copied(c))
-}
-
-// returns adds the blocks to which an exit of a tree leads.
-func returns(c api.Core, found map[int]bool) map[int]bool {
-	if c.Op == api.CoreReturn {
-		found[c.N] = true
-	}
-	for _, k := range c.Kids {
-		returns(k, found)
-	}
-	return found
 }
 
 // copied returns a tree in memory of its own.

@@ -115,11 +115,11 @@ func TestBad(t *testing.T) {
 func TestLimits(t *testing.T) {
 	for _, c := range []struct{ form, want string }{
 		{"(labels ((f () (list (f)))) (unwind-protect (f) (note 1)))", "limit 12"},
-		{"(labels ((f (n) (if (= n 0) 'done (f (- n 1))))) (f 5000))", "done"},
+		{"(let (f) (setq f #'(lambda (n) (if (= n 0) 'done (funcall f (- n 1))))) (funcall f 5000))", "done"},
+		{"(labels ((f (n) (if (= n 0) 'done (f (- n 1))))) (f 5000))", "limit 12"},
 		{"(labels ((f (n) (if (= n 0) nil (list (f (- n 1)))))) (progn (f 600) 'done))", "done"},
-		{"(labels ((f (n) (if (= n 0) nil (list (f (- n 1)))))) (progn (f 1997) 'done))", "done"},
-		{"(labels ((f (n) (if (= n 0) nil (list (f (- n 1)))))) (progn (f 1998) 'done))", "limit 12"},
-		{"(labels ((f (n) (if (= n 0) (return-from f 'done) (f (- n 1))))) (f 5000))", "limit 12"},
+		{"(let (f) (setq f #'(lambda (n) (if (= n 0) nil (list (funcall f (- n 1)))))) (progn (funcall f 1997) 'done))", "done"},
+		{"(let (f) (setq f #'(lambda (n) (if (= n 0) nil (list (funcall f (- n 1)))))) (progn (funcall f 1998) 'done))", "limit 12"},
 		{"(let ((l nil)) (unwind-protect (tagbody a (setq l (list l l l l l l l l)) (go a)) (note 1)))", "limit 11"},
 		{"(let ((l nil)) (tagbody a (setq l (make-array 16000)) (go a)))", "limit 11"},
 		{"(unwind-protect (tagbody a (prin1 \"many letters\") (go a)) (note 1))", "limit 14"},

@@ -98,10 +98,6 @@ func (r *run) begin(n *node, env environment) task {
 	case api.CoreLabels:
 		return r.labels(n, env)
 	case api.CoreBlock:
-		if n.key == nowhere {
-			// No frame is needed, so that functions whose block nobody leaves may call themselves again and again.
-			return begin(n.kids[0], env)
-		}
 		inner, id := r.enter(n, env)
 		r.push(&block{id: id})
 		return begin(n.kids[0], inner)
