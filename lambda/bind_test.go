@@ -258,9 +258,6 @@ func (m *model) list(l lambda.List, all api.Form) {
 			m.optional(item, f, ok)
 		default:
 			m.values = append(m.values, text(item.Init))
-			if item.Kind == lambda.Environment {
-				m.values[len(m.values)-1] = "nil"
-			}
 		}
 	}
 }

@@ -55,7 +55,7 @@ func parse(t *testing.T, s string, macro bool) lambda.List {
 	return l
 }
 
-// describe writes all that a list says.
+// describe writes all that a list says: of an init form nothing if it is NIL, and "none" if it is the zero form.
 func describe(l lambda.List) string {
 	var all []string
 	for _, item := range l.Items {
@@ -65,10 +65,15 @@ func describe(l lambda.List) string {
 		} else {
 			s += text(item.Var)
 		}
+		if item.Init.Kind == 0 {
+			s += "=none"
+		} else if !forms.IsNil(item.Init) {
+			s += "=" + text(item.Init)
+		}
 		for _, f := range []struct {
 			sign string
 			form api.Form
-		}{{"=", item.Init}, {"?", item.Given}, {"@", item.Key}} {
+		}{{"?", item.Given}, {"@", item.Key}} {
 			if f.form.Kind != 0 {
 				s += f.sign + text(f.form)
 			}

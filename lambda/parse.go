@@ -120,8 +120,13 @@ func (r *reader) add(item Item) bool {
 	return true
 }
 
+// plain returns a parameter for which only a variable, or nothing yet, is written. Whatever its kind, an init form that is missing is NIL.
+func plain(kind int, variable api.Form) Item {
+	return Item{Kind: kind, Var: variable, Init: forms.Nil()}
+}
+
 func (r *reader) variable(kind int, f api.Form) bool {
-	return isVariable(f) && r.add(Item{Kind: kind, Var: f})
+	return isVariable(f) && r.add(plain(kind, f))
 }
 
 // parameter reads a parameter of the group that was begun.
@@ -129,7 +134,7 @@ func (r *reader) parameter(f api.Form) bool {
 	switch r.state {
 	case atStart, inRequired:
 		r.state = inRequired
-		item := Item{Kind: Required}
+		item := plain(Required, api.Form{})
 		return r.target(&item, f) && r.add(item)
 	case inOptional:
 		item, ok := r.optional(f)
@@ -164,7 +169,7 @@ func divide(f api.Form, kind, most int) (item Item, first api.Form, ok bool) {
 	if !ok || len(l) == 0 || len(l) > most {
 		return Item{}, api.Form{}, false
 	}
-	item = Item{Kind: kind, Init: forms.Nil()}
+	item = plain(kind, api.Form{})
 	if len(l) > 1 {
 		item.Init = l[1]
 	}
@@ -176,7 +181,7 @@ func divide(f api.Form, kind, most int) (item Item, first api.Form, ok bool) {
 
 func (r *reader) optional(f api.Form) (Item, bool) {
 	if isVariable(f) {
-		return Item{Kind: Optional, Var: f, Init: forms.Nil()}, true
+		return plain(Optional, f), true
 	}
 	item, first, ok := divide(f, Optional, 3)
 	return item, ok && r.target(&item, first)
@@ -184,7 +189,9 @@ func (r *reader) optional(f api.Form) (Item, bool) {
 
 func (r *reader) key(f api.Form) (Item, bool) {
 	if isVariable(f) {
-		return Item{Kind: Key, Var: f, Init: forms.Nil(), Key: forms.Symbol(keywords, f.Text)}, true
+		item := plain(Key, f)
+		item.Key = forms.Symbol(keywords, f.Text)
+		return item, true
 	}
 	item, first, ok := divide(f, Key, 3)
 	if !ok {
@@ -204,7 +211,7 @@ func (r *reader) key(f api.Form) (Item, bool) {
 
 func aux(f api.Form) (Item, bool) {
 	if isVariable(f) {
-		return Item{Kind: Aux, Var: f, Init: forms.Nil()}, true
+		return plain(Aux, f), true
 	}
 	item, first, ok := divide(f, Aux, 2)
 	item.Var = first

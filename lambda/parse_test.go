@@ -17,36 +17,36 @@ func TestParse(t *testing.T) {
 		{"nil", "", ""},
 		{"(a b)", "1:a 1:b", "1:a 1:b"},
 		{"(a &optional (b 1 c) &rest d)", "1:a 2:b=1?c 3:d", "1:a 2:b=1?c 3:d"},
-		{"(&optional a (b) (c 2))", "2:a=nil 2:b=nil 2:c=2", "2:a=nil 2:b=nil 2:c=2"},
+		{"(&optional a (b) (c 2))", "2:a 2:b 2:c=2", "2:a 2:b 2:c=2"},
 		{"(&optional)", "", ""},
 		{"(&body a)", "3:a", "3:a"},
 		{"(&key)", "keys", "keys"},
 		{"(&key &allow-other-keys)", "keys allow", "keys allow"},
-		{"(&key x (y) ((k z) 3 zp))", "4:x=nil@:x 4:y=nil@:y 4:z=3?zp@k keys", "4:x=nil@:x 4:y=nil@:y 4:z=3?zp@k keys"},
-		{"(&key ((nil z)) ((t y)) ((&rest x)))", "4:z=nil@nil 4:y=nil@t 4:x=nil@&rest keys", "4:z=nil@nil 4:y=nil@t 4:x=nil@&rest keys"},
-		{"(&aux a (b) (c 1))", "5:a=nil 5:b=nil 5:c=1", "5:a=nil 5:b=nil 5:c=1"},
-		{"(a &rest r &key k &allow-other-keys &aux x)", "1:a 3:r 4:k=nil@:k 5:x=nil keys allow", "1:a 3:r 4:k=nil@:k 5:x=nil keys allow"},
+		{"(&key x (y) ((k z) 3 zp))", "4:x@:x 4:y@:y 4:z=3?zp@k keys", "4:x@:x 4:y@:y 4:z=3?zp@k keys"},
+		{"(&key ((nil z)) ((t y)) ((&rest x)))", "4:z@nil 4:y@t 4:x@&rest keys", "4:z@nil 4:y@t 4:x@&rest keys"},
+		{"(&aux a (b) (c 1))", "5:a 5:b 5:c=1", "5:a 5:b 5:c=1"},
+		{"(a &rest r &key k &allow-other-keys &aux x)", "1:a 3:r 4:k@:k 5:x keys allow", "1:a 3:r 4:k@:k 5:x keys allow"},
 		{"(#:a #:nil)", "1:#:a 1:#:nil", "1:#:a 1:#:nil"},
 		{"(&optional (a #1=(x)) (b #1#))", "2:a=(x) 2:b=?", "2:a=(x) 2:b=?"},
 		{"(#:&rest #:t reader::&key)", "1:#:&rest 1:#:t 1:reader::&key", "1:#:&rest 1:#:t 1:reader::&key"},
 		{"(a . b)", "-", "1:a 3:b"},
 		{"((a b) . c)", "-", "1:[1:a 1:b] 3:c"},
 		{"(nil a)", "-", "1:[] 1:a"},
-		{"(&optional a . b)", "-", "2:a=nil 3:b"},
-		{"(&optional ((a . b)) (nil 1 g))", "-", "2:[1:a 3:b]=nil 2:[]=1?g"},
-		{"(&key ((:k (a &key b)) 3))", "-", "4:[1:a 4:b=nil@:b keys]=3@:k keys"},
+		{"(&optional a . b)", "-", "2:a 3:b"},
+		{"(&optional ((a . b)) (nil 1 g))", "-", "2:[1:a 3:b] 2:[]=1?g"},
+		{"(&key ((:k (a &key b)) 3))", "-", "4:[1:a 4:b@:b keys]=3@:k keys"},
 		{"(&whole w a)", "-", "6:w 1:a"},
 		{"(&whole w . r)", "-", "6:w 3:r"},
 		{"(&environment e)", "-", "7:e"},
 		{"(&whole w &environment e a)", "-", "6:w 7:e 1:a"},
 		{"(a &environment e b)", "-", "1:a 7:e 1:b"},
 		{"(a &environment e . b)", "-", "1:a 7:e 3:b"},
-		{"(&optional &environment e a)", "-", "7:e 2:a=nil"},
+		{"(&optional &environment e a)", "-", "7:e 2:a"},
 		{"(&rest r &environment e &key &environment)", "-", "-"},
 		{"(&rest r &environment e &key)", "-", "3:r 7:e keys"},
-		{"(&key a &environment e b)", "-", "4:a=nil@:a 7:e 4:b=nil@:b keys"},
+		{"(&key a &environment e b)", "-", "4:a@:a 7:e 4:b@:b keys"},
 		{"(&key &allow-other-keys &environment e)", "-", "7:e keys allow"},
-		{"(&aux a &environment e)", "-", "5:a=nil 7:e"},
+		{"(&aux a &environment e)", "-", "5:a 7:e"},
 	} {
 		for macro, want := range map[bool]string{false: c.functions, true: c.macros} {
 			l, e := lambda.Parse(read(t, c.list), macro)
@@ -150,6 +150,73 @@ func TestVariablesAndArity(t *testing.T) {
 	}
 }
 
+// writeInits writes the init form of each item, with those of its pattern in brackets; none for the zero form.
+func writeInits(l lambda.List) string {
+	var all []string
+	for _, item := range l.Items {
+		s := "none"
+		if item.Init.Kind != 0 {
+			s = text(item.Init)
+		}
+		if item.Pattern != nil {
+			s += "[" + writeInits(*item.Pattern) + "]"
+		}
+		all = append(all, s)
+	}
+	return strings.Join(all, " ")
+}
+
+// An item for which no init form is written has NIL, whatever its kind, and so it is behind Show.
+func TestInits(t *testing.T) {
+	for _, c := range []struct {
+		list  string
+		macro bool
+		want  string
+	}{
+		{"(a &rest r)", false, "nil nil"},
+		{"(a &body r)", false, "nil nil"},
+		{"(a &optional b (c) (d 1) (e nil))", false, "nil nil nil 1 nil"},
+		{"(a &key b (c) (d 1) ((:e f)) ((:g h) 2))", false, "nil nil nil 1 nil 2"},
+		{"(a &rest r &key k &aux x (y) (z 3))", false, "nil nil nil nil nil 3"},
+		{"(&whole w a &environment e)", true, "nil nil nil"},
+		{"(&whole w a &optional (b 1) &environment e . r)", true, "nil nil 1 nil nil"},
+		{"((p &rest q) a)", true, "nil[nil nil] nil"},
+		{"(a . r)", true, "nil nil"},
+		{"((p . q) (((s)) . u) . r)", true, "nil[nil nil] nil[nil[nil[nil]] nil] nil"},
+		{"(nil a)", true, "nil[] nil"},
+		{"(&optional ((a b)) ((c . d) 5) &key ((:k (e &aux f (g 6)))))", true, "nil[nil nil] 5[nil nil] nil[nil nil 6]"},
+	} {
+		l := parse(t, c.list, c.macro)
+		f, e := lambda.Show(l)
+		if e != api.OK {
+			t.Fatalf("Show of %s: %v", c.list, e)
+		}
+		back, e := lambda.Parse(f, c.macro)
+		if e != api.OK || writeInits(l) != c.want || writeInits(back) != c.want {
+			t.Errorf("Parse(%s, %v) has the init forms %s, and %s behind Show, %v; want %s", c.list, c.macro, writeInits(l), writeInits(back), e, c.want)
+		}
+	}
+	lists(t, func(s string, macro bool, r *rand.Rand) {
+		if l := parse(t, s, macro); strings.Contains(writeInits(l), "none") {
+			t.Fatalf("Parse(%s, %v) has the init forms %s", s, macro, writeInits(l))
+		}
+	})
+}
+
+// Parse gives each item an init form, so a list in which one has the zero form is said by no form.
+func TestShowWithoutInit(t *testing.T) {
+	for _, s := range []string{"(a)", "(&optional a)", "(&rest a)", "(&key a)", "(&aux a)", "(&whole a)", "(&environment a)", "((a))", "(b &optional (a nil c))"} {
+		l := parse(t, s, true)
+		l.Items[len(l.Items)-1].Init = api.Form{}
+		if f, e := lambda.Show(l); e != api.ErrForm || f.Kind != 0 {
+			t.Errorf("Show of %s without an init form: %s, %v; want ErrForm", s, text(f), e)
+		}
+		if f, n, e := lambda.Bind(l, forms.Nil(), nil, 3); e != api.ErrForm || f.Kind != 0 || n != 0 {
+			t.Errorf("Bind of %s without an init form: %s, %d, %v; want ErrForm", s, text(f), n, e)
+		}
+	}
+}
+
 // P18.2: what Show writes is read as the list, for functions too if it was read so.
 func TestShow(t *testing.T) {
 	lists(t, func(s string, macro bool, r *rand.Rand) {
@@ -201,14 +268,13 @@ func TestWrongLists(t *testing.T) {
 	for i, l := range []lambda.List{
 		loop,
 		{Allow: true},
-		{Items: []lambda.Item{{Kind: 9, Var: a}}},
-		{Items: []lambda.Item{{Kind: lambda.Required}}},
-		{Items: []lambda.Item{{Kind: lambda.Optional, Var: a}}},
+		{Items: []lambda.Item{{Kind: 9, Var: a, Init: forms.Nil()}}},
+		{Items: []lambda.Item{{Kind: lambda.Required, Init: forms.Nil()}}},
 		{Items: []lambda.Item{{Kind: lambda.Key, Var: a, Init: forms.Nil(), Key: a}}},
-		{Items: []lambda.Item{{Kind: lambda.Rest, Var: a}, {Kind: lambda.Required, Var: forms.Symbol("", "B")}}},
-		{Items: []lambda.Item{{Kind: lambda.Required, Var: a}, {Kind: lambda.Required, Var: a}}},
-		{Items: []lambda.Item{{Kind: lambda.Required, Var: a, Key: a}}},
-		{Items: []lambda.Item{{Kind: lambda.Required, Var: forms.Nil()}}},
+		{Items: []lambda.Item{{Kind: lambda.Rest, Var: a, Init: forms.Nil()}, {Kind: lambda.Required, Var: forms.Symbol("", "B"), Init: forms.Nil()}}},
+		{Items: []lambda.Item{{Kind: lambda.Required, Var: a, Init: forms.Nil()}, {Kind: lambda.Required, Var: a, Init: forms.Nil()}}},
+		{Items: []lambda.Item{{Kind: lambda.Required, Var: a, Init: forms.Nil(), Key: a}}},
+		{Items: []lambda.Item{{Kind: lambda.Required, Var: forms.Nil(), Init: forms.Nil()}}},
 	} {
 		if f, e := lambda.Show(l); e != api.ErrForm || f.Kind != 0 {
 			t.Errorf("%d: Show: %v; want ErrForm", i, e)
