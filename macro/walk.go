@@ -88,14 +88,12 @@ func (x *walker) step(f api.Form, s *scope, isTop bool) (api.Form, bool) {
 		return f, false
 	}
 	x.count()
-	need(forms.Check(f) == api.OK)
-	if user == nil && !isTop {
-		need(!x.isForTop(f.Kids[0]))
-	}
+	need(isTop || user != nil || !x.isForTop(f.Kids[0]))
+	need(forms.Check(f) == api.OK) // a part of a right form may refer to a label outside of it
 	return checked(expand(f)), true
 }
 
-// isForTop reports whether a standard macro may be called at the top alone.
+// isForTop reports whether a symbol means a standard macro that is called at the top alone.
 func (x *walker) isForTop(f api.Form) bool {
 	isDefinition := forms.Is(f, lisp, "DEFMACRO") || forms.Is(f, lisp, "DECLAIM")
 	return isDefinition && x.table.expander(f) == nil
