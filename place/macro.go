@@ -127,30 +127,33 @@ func (x *expander) change(function string, l []api.Form) (api.Form, api.Errno) {
 	return bound(append(bindings, p.bind(call(function, p.Read, by))), p.Write), api.OK
 }
 
-func (x *expander) push(l []api.Form) (api.Form, api.Errno) {
+// beside returns a place, and the variable of a value that is evaluated ahead of it, with the bindings of both.
+func (x *expander) beside(l []api.Form) (p Place, s api.Form, bindings []api.Form, e api.Errno) {
 	if len(l) != 2 {
-		return api.Form{}, api.ErrForm
+		return Place{}, api.Form{}, nil, api.ErrForm
 	}
-	s := x.fresh()
-	p, e := x.single(l[1])
+	s = x.fresh()
+	p, e = x.single(l[1])
+	if e != api.OK {
+		return Place{}, api.Form{}, nil, e
+	}
+	return p, s, append([]api.Form{list(s, l[0])}, p.bindings()...), api.OK
+}
+
+func (x *expander) push(l []api.Form) (api.Form, api.Errno) {
+	p, s, bindings, e := x.beside(l)
 	if e != api.OK {
 		return api.Form{}, e
 	}
-	bindings := append([]api.Form{list(s, l[0])}, p.bindings()...)
 	return bound(append(bindings, p.bind(call("CONS", s, p.Read))), p.Write), api.OK
 }
 
 func (x *expander) pushnew(l []api.Form) (api.Form, api.Errno) {
-	if len(l) != 2 {
-		return api.Form{}, api.ErrForm
-	}
-	s := x.fresh()
-	p, e := x.single(l[1])
+	p, s, bindings, e := x.beside(l)
 	if e != api.OK {
 		return api.Form{}, e
 	}
 	r := x.fresh()
-	bindings := append([]api.Form{list(s, l[0])}, p.bindings()...)
 	added := bound([]api.Form{p.bind(call("CONS", s, r))}, p.Write)
 	return bound(append(bindings, list(r, p.Read)), call("IF", call("MEMBER", s, r), r, added)), api.OK
 }
