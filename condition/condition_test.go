@@ -102,8 +102,8 @@ func TestSizes(t *testing.T) {
 		{"many forms", forms.Call("HANDLER-BIND", append([]api.Form{forms.Nil()}, many[:1900]...)), api.OK},
 		{"too many forms", forms.Call("HANDLER-BIND", append([]api.Form{forms.Nil()}, many...)), api.ErrSize},
 	} {
-		if _, _, e := condition.Macro(c.form, 0); e != c.e {
-			t.Errorf("%s: %v; want %v", c.what, e, c.e)
+		if f, next, e := condition.Macro(c.form, 0); e != c.e || e != api.OK && (next != 0 || f.Kind != 0) {
+			t.Errorf("%s: %d, %v; want %v", c.what, next, e, c.e)
 		}
 	}
 }

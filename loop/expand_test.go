@@ -20,6 +20,7 @@ func TestMacro(t *testing.T) {
 		{"", "(block nil (tagbody g0 (go g0)))", 1},
 		{"(a) (b)", "(block nil (tagbody g0 (a) (b) (go g0)))", 1},
 		{"do (a) (b)", "(block nil (let* () (tagbody g0 (progn (a) (b)) (go g0) g1) nil))", 2},
+		{"named n", "(block n (let* () (tagbody g0 (go g0) g1) nil))", 2},
 		{"named n return 5", "(block n (let* () (tagbody g0 (return-from n 5) (go g0) g1) nil))", 2},
 		{"with a with b = (c)", "(block nil (let* ((a nil) (b (c))) (tagbody g0 (go g0) g1) nil))", 2},
 		{"do (a) finally (b) (c) initially (d) initially (e) (f) finally (h)", "(block nil (let* () (tagbody (d) (e) (f) g0 (progn (a)) (go g0) g1 (b) (c) (h)) nil))", 2},
@@ -118,8 +119,8 @@ func TestSizes(t *testing.T) {
 		{"many forms to do", append([]api.Form{symbol("DO")}, many(493)...), api.OK},
 		{"too many forms to do", append([]api.Form{symbol("DO")}, many(498)...), api.ErrSize},
 	} {
-		if _, _, e := loop.Macro(forms.Call("LOOP", c.l), 0); e != c.e {
-			t.Errorf("%s: %v; want %v", c.what, e, c.e)
+		if f, next, e := loop.Macro(forms.Call("LOOP", c.l), 0); e != c.e || e != api.OK && (next != 0 || f.Kind != 0) {
+			t.Errorf("%s: %d, %v; want %v", c.what, next, e, c.e)
 		}
 	}
 }
