@@ -68,6 +68,10 @@ func TestAllSpecialForms(t *testing.T) {
 		{"(load-time-value (and))", "(load-time-value t)"},
 		{"(f (and) (or))", "(f t nil)"},
 		{"(declare (and))", "(declare t)"},
+		{"(p::if (and))", "(p::if t)"},
+		{"(p::quote (and))", "(p::quote t)"},
+		{"(p::and (and))", "(p::and t)"},
+		{"(p::macrolet (and))", "(p::macrolet t)"},
 		{"(eval-when (:compile-toplevel eval) (and) (or))", "(progn t nil)"},
 		{"(eval-when (:execute) (and))", "(progn t)"},
 		{"(eval-when (5 :load-toplevel))", "(progn)"},
@@ -109,6 +113,10 @@ func TestEnvironments(t *testing.T) {
 		{"(flet ((and () (and 1 2))) (and 1 2) (function (lambda () (and))))", "(flet ((and () (if 1 2))) (and 1 2) (function (lambda () (and))))"},
 		{"(labels ((and () (and 1 2))) (and 1 2))", "(labels ((and () (and 1 2))) (and 1 2))"},
 		{"(progn (flet ((and ())) (and)) (and))", "(progn (flet ((and ())) (and)) t)"},
+		{"(flet ((and ()) (or ())) (and) (or))", "(flet ((and ()) (or ())) (and) (or))"},
+		{"(labels ((and () (or)) (or () (and))) (and) (or))", "(labels ((and () (or)) (or () (and))) (and) (or))"},
+		{"(macrolet ((m () 1) (n () 2)) (m) (n))", "(locally 1 2)"},
+		{"(symbol-macrolet ((x 1) (y 2)) x y)", "(locally 1 2)"},
 		{"(flet ((p::and ())) (and))", "(flet ((p::and ())) t)"},
 		{"(let ((and 1)) (and and and))", "(let ((and 1)) (if and and))"},
 		{"(flet ((and ())) (macrolet ((and () 5)) (and)) (and))", "(flet ((and ())) (locally 5) (and))"},
@@ -171,7 +179,7 @@ func TestAllErrors(t *testing.T) {
 	w := newWorld(t)
 	for _, s := range []string{
 		"(quote)", "(quote a b)", "(quote . a)", "(function)", "(function 5)", "(function nil)", "(function :a)", "(function (setf a))", "(function (lambda))", "(function (lambda 5))", "(function (lambda (5)))",
-		"(function (lambda (a . b)))", "(function ((lambda ())))", "(if)", "(if a)", "(if a b c d)", "(if a . b)", "(let)", "(let 5)", "(let (5))", "(let (nil))", "(let ((a b c)))", "(let (()))", "(let ((5 1)))", "(let* ((:a 1)))", "(let ((a . b)))",
+		"(function (lambda (a . b)))", "(function ((lambda ())))", "(function a b)", "(function (f ()))", "((f ()) b)", "((p::lambda ()) b)", "(if)", "(if a)", "(if a b c d)", "(if a . b)", "(let)", "(let 5)", "(let (5))", "(let (nil))", "(let ((a b c)))", "(let (()))", "(let ((5 1)))", "(let* ((:a 1)))", "(let ((a . b)))",
 		"(setq a)", "(setq 5 1)", "(setq nil 1)", "(setq (a) 1)", "(block)", "(block 5)", "(return-from)", "(return-from 5)", "(return-from a b c)", "(go)", "(go (a))", "(go a b)", "(go \"a\")",
 		"(catch)", "(throw)", "(throw a)", "(throw a b c)", "(unwind-protect)", "(multiple-value-call)", "(multiple-value-prog1)", "(progv)", "(progv a)",
 		"(flet)", "(flet 5)", "(flet (f))", "(flet ((f)))", "(flet ((5 ())))", "(flet ((nil ())))", "(flet ((f 5)))", "(labels ((:f ())))", "(labels ((f () . a)))", "(the)", "(the a)", "(the a b c)", "(load-time-value)", "(load-time-value a b c)",
@@ -202,6 +210,10 @@ func TestAllErrors(t *testing.T) {
 		if e := refused(t, w, macro.New(), read(t, s)); e != want {
 			t.Errorf("All(%s): %v; want %v", s, e, want)
 		}
+	}
+	// An expander is not asked for what refers to a label outside of it.
+	if e := refused(t, w, given(), read(t, "(f '#1=(a) (setf x #1#))")); e != api.ErrForm {
+		t.Errorf("a reference in a call of SETF: %v", e)
 	}
 	for _, f := range []api.Form{{}, {Kind: api.FormCons}, {Kind: api.FormRef, Text: "1"}, {Kind: 77}, forms.List([]api.Form{{}})} {
 		if e := refused(t, w, macro.New(), f); e != api.ErrForm {
@@ -247,6 +259,7 @@ func TestAllLimits(t *testing.T) {
 		{"a form that becomes too large", grows(399), api.OK},
 		{"a form that becomes too large by two", grows(400), api.ErrSize},
 		{"too deep and too large", forms.Call("PROGN", append(many(1998, atom), nested(atom, 100, "PROGN"))), api.ErrSize},
+		{"large and as deep as may be", forms.Call("PROGN", append(many(1990, atom), nested(atom, 98, "PROGN"))), api.ErrSize},
 		{"too large behind too deep", forms.Call("PROGN", append([]api.Form{nested(atom, 100, "PROGN")}, many(1998, atom)...)), api.ErrDepth},
 		{"500 calls", forms.Call("PROGN", many(500, call)), api.OK},
 	} {
@@ -310,6 +323,26 @@ func TestAllCalls(t *testing.T) {
 	set := "(symbol-macrolet ((x x)) (setq x 1))"
 	if e := refused(t, w, given(), read(t, set)); e != api.ErrDepth {
 		t.Errorf("All(%s): %v", set, e)
+	}
+}
+
+// A form is too deep when it is met, whatever it might be expanded to; the depth is that of the form in which it stands.
+func TestAllDepth(t *testing.T) {
+	w := newWorld(t)
+	for s, adds := range map[string]int{
+		"(f (again))": 1, "(progn a (again))": 1, "(if a b (again))": 1, "(setq a (again))": 1, "(tagbody a (again))": 1, "(block a (again))": 1, "(the a (again))": 1, "(load-time-value (again))": 1, "(locally (again))": 1,
+		"(let ((v (again))))": 3, "(let* (u (v (again))))": 3, "(let (v) (again))": 1, "(let* () (declare (a)) (again))": 1, "((lambda () (again)))": 2, "((lambda (&optional (v (again)))))": 4, "(f ((lambda ()) (again)))": 2,
+		"(function (lambda () (again)))": 2, "(function (lambda (&key (v (again) u))))": 4, "(flet ((f () (again))))": 3, "(flet ((f (&aux (v (again))))))": 5, "(labels () (again))": 1, "(labels ((f (a &optional b) c (again))))": 3,
+		"(macrolet () (again))": 1, "(symbol-macrolet () (again))": 1, "(symbol-macrolet ((x (again))) x)": 1, "(eval-when (eval) (again))": 1, "(symbol-macrolet ((x y)) (setq a 1 x (again)))": 3, "(symbol-macrolet ((x y)) (setq x (again)))": 2,
+	} {
+		calls := 0
+		table := expanding(macro.New(), "AGAIN", func([]api.Form) api.Form {
+			calls++
+			return read(t, s)
+		})
+		if e := refused(t, w, table, read(t, "(again)")); e != api.ErrDepth || calls != 1+99/adds {
+			t.Errorf("%s again and again: %v, %d calls", s, e, calls)
+		}
 	}
 }
 

@@ -193,7 +193,7 @@ func TestOnceErrors(t *testing.T) {
 		"(defclass a () ((b :reader (c))))", "(defclass a () ((b :accessor 5)))", "(defclass a () ((5 :reader c)))",
 		"(defgeneric)", "(defgeneric f)", "(defgeneric 5 ())", "(defgeneric f 5)", "(defgeneric f (5))", "(defgeneric f ((a b)))", "(defgeneric f () a)", "(defgeneric f () nil)",
 		"(defgeneric f () (:method-combination))", "(defgeneric f () (:method-combination a b))", "(defgeneric f () (:method-combination 5))", "(defgeneric f () (:method-combination a) (:method-combination 5))",
-		"(defmethod)", "(defmethod f)", "(defmethod f :before)", "(defmethod 5 ())", "(defmethod f 5 ())", "(defmethod f (5))", "(defmethod f ((a)))", "(defmethod f ((a b c)))", "(defmethod f ((5 b)))",
+		"(defmethod)", "(defmethod f)", "(defmethod f :before)", "(defmethod 5 ())", "(defmethod f 5 ())", "(defmethod f (5))", "(defmethod f ((a)))", "(defmethod f ((a b c)))", "(defmethod f ((5 b)))", "(defmethod f ((&optional c) x))", "(defmethod f ((&rest c) x))",
 		"(defmethod f ((a 5)))", "(defmethod f ((a (eql))))", "(defmethod f ((a (eql 1 2))))", "(defmethod f ((a (equal 1))))", "(defmethod f (&optional ((a b))))", "(defmethod f (a . b))", "(defmethod f (&whole a))",
 		"(with-slots)", "(with-slots ())", "(with-slots (5) a)", "(with-slots ((a b)) c)", "(with-slots a b)", "(reader::backquote)", "(reader::backquote a b)", "(reader::backquote (reader::comma a b))",
 		"(when . a)", "(and a . b)", "(or a b . c)", "(declaim . a)",
@@ -312,6 +312,18 @@ func TestOnceMemory(t *testing.T) {
 		if text(got) != want {
 			t.Errorf("Once(%s) has become %s", s, text(got))
 		}
+	}
+}
+
+// What an expander returns is its own.
+func TestExpanderMemory(t *testing.T) {
+	kept := read(t, "(f (g))")
+	table := macro.Table{Expanders: []macro.Named{{Name: "KEEP", Expand: func(f api.Form, fresh int) (api.Form, int, api.Errno) { return kept, fresh, api.OK }}}}
+	one, _, _, _ := macro.Once(table, read(t, "(keep)"), 0)
+	whole, _, _ := macro.All(nil, table, read(t, "(keep)"), 0)
+	spoil(kept)
+	if text(one) != "(f (g))" || text(whole) != "(f (g))" {
+		t.Errorf("with what the expander keeps the results become %s and %s", text(one), text(whole))
 	}
 }
 
