@@ -179,7 +179,7 @@ func TestAllErrors(t *testing.T) {
 	w := newWorld(t)
 	for _, s := range []string{
 		"(quote)", "(quote a b)", "(quote . a)", "(function)", "(function 5)", "(function nil)", "(function :a)", "(function (setf a))", "(function (lambda))", "(function (lambda 5))", "(function (lambda (5)))",
-		"(function (lambda (a . b)))", "(function ((lambda ())))", "(function a b)", "(function (f ()))", "((f ()) b)", "((p::lambda ()) b)", "(if)", "(if a)", "(if a b c d)", "(if a . b)", "(let)", "(let 5)", "(let (5))", "(let (nil))", "(let ((a b c)))", "(let (()))", "(let ((5 1)))", "(let* ((:a 1)))", "(let ((a . b)))",
+		"(function (lambda (a . b)))", "(function (lambda ((a))))", "(function (lambda (&whole a)))", "(flet ((f (&optional ((a))))))", "(function ((lambda ())))", "(function a b)", "(function (f ()))", "((f ()) b)", "((p::lambda ()) b)", "(if)", "(if a)", "(if a b c d)", "(if a . b)", "(let)", "(let 5)", "(let (5))", "(let (nil))", "(let ((a b c)))", "(let (()))", "(let ((5 1)))", "(let* ((:a 1)))", "(let ((a . b)))",
 		"(setq a)", "(setq 5 1)", "(setq nil 1)", "(setq (a) 1)", "(block)", "(block 5)", "(return-from)", "(return-from 5)", "(return-from a b c)", "(go)", "(go (a))", "(go a b)", "(go \"a\")",
 		"(catch)", "(throw)", "(throw a)", "(throw a b c)", "(unwind-protect)", "(multiple-value-call)", "(multiple-value-prog1)", "(progv)", "(progv a)",
 		"(flet)", "(flet 5)", "(flet (f))", "(flet ((f)))", "(flet ((5 ())))", "(flet ((nil ())))", "(flet ((f 5)))", "(labels ((:f ())))", "(labels ((f () . a)))", "(the)", "(the a)", "(the a b c)", "(load-time-value)", "(load-time-value a b c)",
@@ -259,7 +259,7 @@ func TestAllLimits(t *testing.T) {
 		{"a form that becomes too large", grows(399), api.OK},
 		{"a form that becomes too large by two", grows(400), api.ErrSize},
 		{"too deep and too large", forms.Call("PROGN", append(many(1998, atom), nested(atom, 100, "PROGN"))), api.ErrSize},
-		{"large and as deep as may be", forms.Call("PROGN", append(many(1990, atom), nested(atom, 98, "PROGN"))), api.ErrSize},
+		{"large and as deep as may be", forms.Call("PROGN", append([]api.Form{nested(atom, 98, "PROGN")}, many(1990, atom)...)), api.ErrSize},
 		{"too large behind too deep", forms.Call("PROGN", append([]api.Form{nested(atom, 100, "PROGN")}, many(1998, atom)...)), api.ErrDepth},
 		{"500 calls", forms.Call("PROGN", many(500, call)), api.OK},
 	} {

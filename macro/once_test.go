@@ -144,6 +144,7 @@ func TestOnceClasses(t *testing.T) {
 		{"(defgeneric f (a b &optional c))", "(progn (%defgeneric 'f 'standard 2) (%fset 'f (function (lambda (&rest g0) (%call-generic 'f g0)))) 'f)", 1},
 		{"(defgeneric (setf f) () (:documentation 1) (:method-combination +) (a))",
 			"(progn (%defgeneric '|(SETF F)| '+ 0) (%fset '|(SETF F)| (function (lambda (&rest g0) (%call-generic '|(SETF F)| g0)))) '|(SETF F)|)", 1},
+		{"(defgeneric f () (:method-combination a) (:method-combination b))", "(progn (%defgeneric 'f 'a 0) (%fset 'f (function (lambda (&rest g0) (%call-generic 'f g0)))) 'f)", 1},
 		{"(with-slots (a b) c (declare d) e)", "(let ((g0 c)) (symbol-macrolet ((a (slot-value g0 'a)) (b (slot-value g0 'b))) (declare d) e))", 1},
 		{"(with-slots () c)", "(let ((g0 c)) (symbol-macrolet ()))", 1},
 	})
