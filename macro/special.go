@@ -163,12 +163,10 @@ func (x *walker) environment(name string, l []api.Form, s *scope, depth int) api
 	definitions := items(l[0])
 	switch name {
 	case "MACROLET":
-		inner := s
 		for _, f := range definitions {
 			parts := counted(items(f), 2, -1)
-			inner = inner.withMacro(named(parts[0]), x.macroFunction(parts))
+			s = s.withMacro(named(parts[0]), x.macroFunction(parts))
 		}
-		s = inner
 	case "SYMBOL-MACROLET":
 		for _, f := range definitions {
 			parts := counted(items(f), 2, 2)
